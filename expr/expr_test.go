@@ -7,6 +7,7 @@ import (
 
 	"semigroup/api"
 	"semigroup/expr"
+	"semigroup/tree"
 )
 
 // TestValidateLetters: P4.1, numbers of letters and letters.
@@ -19,7 +20,7 @@ func TestValidateLetters(t *testing.T) {
 			} else if number < 0 || number >= letters {
 				want = api.ErrShape
 			}
-			for _, e := range []api.Expr{letter(number), node(api.OpNot, node(api.OpUnion, node(api.OpUnit), letter(number)))} {
+			for _, e := range []api.Expr{tree.Letter(number), tree.Node(api.OpNot, tree.Node(api.OpUnion, tree.Node(api.OpUnit), tree.Letter(number)))} {
 				if why := expr.Validate(e, letters); why != want {
 					t.Errorf("%v over %d letters: %d, want %d", e, letters, why, want)
 				}
@@ -27,7 +28,7 @@ func TestValidateLetters(t *testing.T) {
 		}
 	}
 	for _, letters := range []int{math.MinInt, math.MaxInt, 1 << 32, 1<<32 + 1} {
-		if why := expr.Validate(letter(0), letters); why != api.ErrArg {
+		if why := expr.Validate(tree.Letter(0), letters); why != api.ErrArg {
 			t.Errorf("%d letters: %d", letters, why)
 		}
 	}
@@ -46,9 +47,9 @@ func TestValidateShape(t *testing.T) {
 				if slices.Contains(kids[op], n) && (number == 0 || number == 1 && op == api.OpLetter) {
 					want = api.OK
 				}
-				e := row(op, n)
+				e := tree.Row(op, n)
 				e.Letter = number
-				for i, x := range []api.Expr{e, node(api.OpUnion, letter(1), node(api.OpConcat, letter(0), chain(api.OpNot, 30, e)))} {
+				for i, x := range []api.Expr{e, tree.Node(api.OpUnion, tree.Letter(1), tree.Node(api.OpConcat, tree.Letter(0), tree.Chain(api.OpNot, 30, e)))} {
 					if why := expr.Validate(x, 2); why != want {
 						t.Errorf("Op %d, %d kids, letter %d, place %d: %d, want %d", op, n, number, i, why, want)
 					}
@@ -56,7 +57,7 @@ func TestValidateShape(t *testing.T) {
 			}
 		}
 	}
-	for _, e := range invalid() {
+	for _, e := range tree.Invalid() {
 		if why := expr.Validate(e, api.MaxLetters); why == api.OK {
 			t.Errorf("valid: %v", e)
 		}
@@ -65,36 +66,36 @@ func TestValidateShape(t *testing.T) {
 
 // TestValidateLimits: P4.1, the greatest number of nodes and depth, and one more.
 func TestValidateLimits(t *testing.T) {
-	a := letter(0)
+	a := tree.Letter(0)
 	wrong := api.Expr{Op: 9, Letter: 8}
 	shared := a
 	for range 30 {
-		shared = node(api.OpUnion, shared, shared)
+		shared = tree.Node(api.OpUnion, shared, shared)
 	}
 	for i, c := range []struct {
 		e    api.Expr
 		want api.Errno
 	}{
-		{row(api.OpUnion, api.MaxNodes-1), api.OK},
-		{row(api.OpUnion, api.MaxNodes), api.ErrLimit},
-		{node(api.OpAnd, row(api.OpConcat, 198), row(api.OpUnion, 199)), api.OK},
-		{node(api.OpAnd, row(api.OpConcat, 199), row(api.OpUnion, 199)), api.ErrLimit},
-		{node(api.OpAnd, row(api.OpConcat, 198), row(api.OpUnion, 199), a), api.ErrLimit},
-		{node(api.OpAnd, row(api.OpConcat, 198), row(api.OpUnion, 198), wrong), api.ErrShape},
-		{row(api.OpUnit, api.MaxNodes-1), api.ErrShape},
-		{row(api.OpUnit, api.MaxNodes), api.ErrLimit},
-		{row(9, api.MaxNodes), api.ErrLimit},
-		{row(api.OpUnit, 1<<20), api.ErrLimit},
-		{chain(api.OpStar, api.MaxDepth-1, a), api.OK},
-		{chain(api.OpStar, api.MaxDepth, a), api.ErrLimit},
-		{chain(api.OpStar, api.MaxDepth-1, wrong), api.ErrShape},
-		{chain(api.OpStar, api.MaxDepth, wrong), api.ErrLimit},
-		{chain(9, api.MaxDepth, a), api.ErrLimit},
-		{node(api.OpUnion, chain(api.OpNot, api.MaxDepth-2, a), chain(api.OpNot, api.MaxDepth-2, a)), api.OK},
-		{node(api.OpUnion, a, chain(api.OpNot, api.MaxDepth-1, a)), api.ErrLimit},
-		{node(api.OpUnion, chain(api.OpNot, api.MaxDepth-1, a), a), api.ErrLimit},
-		{node(api.OpUnion, wrong, chain(api.OpNot, api.MaxDepth-1, a)), api.ErrLimit},
-		{chain(api.OpStar, 1<<12-1, a), api.ErrLimit},
+		{tree.Row(api.OpUnion, api.MaxNodes-1), api.OK},
+		{tree.Row(api.OpUnion, api.MaxNodes), api.ErrLimit},
+		{tree.Node(api.OpAnd, tree.Row(api.OpConcat, 198), tree.Row(api.OpUnion, 199)), api.OK},
+		{tree.Node(api.OpAnd, tree.Row(api.OpConcat, 199), tree.Row(api.OpUnion, 199)), api.ErrLimit},
+		{tree.Node(api.OpAnd, tree.Row(api.OpConcat, 198), tree.Row(api.OpUnion, 199), a), api.ErrLimit},
+		{tree.Node(api.OpAnd, tree.Row(api.OpConcat, 198), tree.Row(api.OpUnion, 198), wrong), api.ErrShape},
+		{tree.Row(api.OpUnit, api.MaxNodes-1), api.ErrShape},
+		{tree.Row(api.OpUnit, api.MaxNodes), api.ErrLimit},
+		{tree.Row(9, api.MaxNodes), api.ErrLimit},
+		{tree.Row(api.OpUnit, 1<<20), api.ErrLimit},
+		{tree.Chain(api.OpStar, api.MaxDepth-1, a), api.OK},
+		{tree.Chain(api.OpStar, api.MaxDepth, a), api.ErrLimit},
+		{tree.Chain(api.OpStar, api.MaxDepth-1, wrong), api.ErrShape},
+		{tree.Chain(api.OpStar, api.MaxDepth, wrong), api.ErrLimit},
+		{tree.Chain(9, api.MaxDepth, a), api.ErrLimit},
+		{tree.Node(api.OpUnion, tree.Chain(api.OpNot, api.MaxDepth-2, a), tree.Chain(api.OpNot, api.MaxDepth-2, a)), api.OK},
+		{tree.Node(api.OpUnion, a, tree.Chain(api.OpNot, api.MaxDepth-1, a)), api.ErrLimit},
+		{tree.Node(api.OpUnion, tree.Chain(api.OpNot, api.MaxDepth-1, a), a), api.ErrLimit},
+		{tree.Node(api.OpUnion, wrong, tree.Chain(api.OpNot, api.MaxDepth-1, a)), api.ErrLimit},
+		{tree.Chain(api.OpStar, 1<<12-1, a), api.ErrLimit},
 		{shared, api.ErrLimit},
 	} {
 		if why := expr.Validate(c.e, 1); why != c.want {
@@ -129,9 +130,9 @@ func paths(e api.Expr, above []int, visit func(path []int)) {
 
 // TestMeasures: P4.2, against the definitions by the paths of a tree.
 func TestMeasures(t *testing.T) {
-	limits := []api.Expr{row(api.OpUnion, api.MaxNodes-1), chain(api.OpStar, api.MaxDepth-1, letter(0)), chain(api.OpNot, api.MaxDepth-1, letter(5))}
-	for _, e := range slices.Concat(small(5), scattered(200), limits) {
-		want := measures{starFree: true, nullable: belongs(e, "")}
+	limits := []api.Expr{tree.Row(api.OpUnion, api.MaxNodes-1), tree.Chain(api.OpStar, api.MaxDepth-1, tree.Letter(0)), tree.Chain(api.OpNot, api.MaxDepth-1, tree.Letter(5))}
+	for _, e := range slices.Concat(tree.Small(5), tree.Scattered(200), limits) {
+		want := measures{starFree: true, nullable: tree.Belongs(e, "")}
 		paths(e, nil, func(path []int) {
 			stars := 0
 			for _, op := range path {
@@ -148,7 +149,7 @@ func TestMeasures(t *testing.T) {
 			t.Fatalf("%s: %v, want %v", expr.Format(e), got, want)
 		}
 	}
-	for _, e := range invalid() {
+	for _, e := range tree.Invalid() {
 		if got := measured(e); got != (measures{}) {
 			t.Errorf("%v: %v", e, got)
 		}
@@ -163,7 +164,7 @@ func TestMeasuresByHand(t *testing.T) {
 		"ab|c": {5, 3, 0, true, false}, "(a*b)*|c*": {8, 5, 2, false, true}, "a*|!b*": {6, 4, 1, false, true}, "!(b*)c*": {6, 4, 1, false, false},
 		"1&a*": {4, 3, 1, false, true}, "a&1": {3, 2, 0, true, false}, "a|1": {3, 2, 0, true, true}, "a1": {3, 2, 0, true, false}, "1(1|a)": {5, 3, 0, true, true},
 	} {
-		if got := measured(parse(t, s)); got != want {
+		if got := measured(tree.Parse(s)); got != want {
 			t.Errorf("%s: %v, want %v", s, got, want)
 		}
 	}
@@ -180,11 +181,11 @@ func key(e api.Expr) []int {
 
 // TestCompare: P4.6, valid and other trees.
 func TestCompare(t *testing.T) {
-	list := slices.Concat(small(3), invalid(), scattered(20))
+	list := slices.Concat(tree.Small(3), tree.Invalid(), tree.Scattered(20))
 	for _, number := range []int{math.MinInt, math.MaxInt, -1, 0, 1} {
-		list = append(list, api.Expr{Op: number}, letter(number), node(number, letter(number)), api.Expr{Op: api.OpUnion, Letter: number, Kids: []api.Expr{letter(0), letter(1)}})
+		list = append(list, api.Expr{Op: number}, tree.Letter(number), tree.Node(number, tree.Letter(number)), api.Expr{Op: api.OpUnion, Letter: number, Kids: []api.Expr{tree.Letter(0), tree.Letter(1)}})
 	}
-	for i, a := range small(5) {
+	for i, a := range tree.Small(5) {
 		if i%97 == 0 {
 			list = append(list, a)
 		}
@@ -204,42 +205,42 @@ func TestCompare(t *testing.T) {
 
 // TestCompareByHand: P4.6, Op before Letter before kids, and lists of kids.
 func TestCompareByHand(t *testing.T) {
-	a, b := letter(0), letter(1)
+	a, b := tree.Letter(0), tree.Letter(1)
 	for i, c := range []struct {
 		less, greater api.Expr
 	}{
-		{node(api.OpEmpty), node(api.OpUnit)},
-		{api.Expr{Op: api.OpEmpty, Letter: 9}, node(api.OpUnit)},
+		{tree.Node(api.OpEmpty), tree.Node(api.OpUnit)},
+		{api.Expr{Op: api.OpEmpty, Letter: 9}, tree.Node(api.OpUnit)},
 		{api.Expr{Op: api.OpUnion, Kids: []api.Expr{b, b}}, api.Expr{Op: api.OpUnion, Letter: 1, Kids: []api.Expr{a}}},
 		{a, b},
-		{letter(5), node(api.OpUnion)},
-		{node(api.OpUnion, b, b), node(api.OpConcat, a, a)},
-		{node(api.OpConcat, a, b), node(api.OpConcat, a, b, a)},
-		{node(api.OpConcat, a, b, b), node(api.OpConcat, b, a)},
-		{node(api.OpConcat, a, node(api.OpStar, a)), node(api.OpConcat, a, node(api.OpNot, a))},
-		{node(api.OpStar), node(api.OpStar, api.Expr{Op: math.MinInt})},
-		{letter(math.MinInt), letter(math.MaxInt)},
+		{tree.Letter(5), tree.Node(api.OpUnion)},
+		{tree.Node(api.OpUnion, b, b), tree.Node(api.OpConcat, a, a)},
+		{tree.Node(api.OpConcat, a, b), tree.Node(api.OpConcat, a, b, a)},
+		{tree.Node(api.OpConcat, a, b, b), tree.Node(api.OpConcat, b, a)},
+		{tree.Node(api.OpConcat, a, tree.Node(api.OpStar, a)), tree.Node(api.OpConcat, a, tree.Node(api.OpNot, a))},
+		{tree.Node(api.OpStar), tree.Node(api.OpStar, api.Expr{Op: math.MinInt})},
+		{tree.Letter(math.MinInt), tree.Letter(math.MaxInt)},
 		{api.Expr{Op: math.MinInt}, api.Expr{Op: math.MaxInt}},
-		{chain(api.OpStar, 1<<12-1, a), chain(api.OpStar, 1<<12-1, b)},
-		{row(api.OpUnion, 1<<16), row(api.OpUnion, 1<<16+1)},
+		{tree.Chain(api.OpStar, 1<<12-1, a), tree.Chain(api.OpStar, 1<<12-1, b)},
+		{tree.Row(api.OpUnion, 1<<16), tree.Row(api.OpUnion, 1<<16+1)},
 	} {
 		if x, y := expr.Compare(c.less, c.greater), expr.Compare(c.greater, c.less); x != -1 || y != 1 {
 			t.Errorf("case %d: %d and %d", i, x, y)
 		}
-		if x, y := expr.Compare(c.less, clone(c.less)), expr.Compare(clone(c.greater), c.greater); x != 0 || y != 0 {
+		if x, y := expr.Compare(c.less, tree.Clone(c.less)), expr.Compare(tree.Clone(c.greater), c.greater); x != 0 || y != 0 {
 			t.Errorf("case %d, with itself: %d and %d", i, x, y)
 		}
 	}
-	if x := expr.Compare(node(api.OpUnit), api.Expr{Op: api.OpUnit, Kids: []api.Expr{}}); x != 0 {
+	if x := expr.Compare(tree.Node(api.OpUnit), api.Expr{Op: api.OpUnit, Kids: []api.Expr{}}); x != 0 {
 		t.Error("nil and no kids:", x)
 	}
 }
 
 // TestArguments: R3 and R4, for all functions that take an expression.
 func TestArguments(t *testing.T) {
-	for _, plain := range slices.Concat(small(4), scattered(60), invalid()) {
-		e := spare(plain)
-		before := clone(e)
+	for _, plain := range slices.Concat(tree.Small(4), tree.Scattered(60), tree.Invalid()) {
+		e := tree.Spare(plain)
+		before := tree.Clone(e)
 		for range 2 {
 			if why := expr.Validate(e, 2); why != expr.Validate(plain, 2) {
 				t.Fatal("Validate", e, why)
@@ -248,22 +249,13 @@ func TestArguments(t *testing.T) {
 				t.Fatal("not the same results:", e)
 			}
 			normal := expr.Normal(e)
-			if !same(normal, expr.Normal(plain)) {
+			if !tree.Same(normal, expr.Normal(plain)) {
 				t.Fatal("Normal", e)
 			}
-			scribble(normal)
+			tree.Scribble(normal)
 		}
-		if !untouched(e, before) {
+		if !tree.Untouched(e, before) {
 			t.Fatal("an argument was modified:", before)
 		}
-	}
-}
-
-// scribble writes over a tree.
-func scribble(e api.Expr) {
-	kids := e.Kids[:cap(e.Kids)]
-	for i := range kids {
-		scribble(kids[i])
-		kids[i] = api.Expr{Op: 99}
 	}
 }

@@ -8,19 +8,20 @@ import (
 
 	"semigroup/api"
 	"semigroup/expr"
+	"semigroup/tree"
 )
 
 // TestMatch: P4.9, all small expressions and many larger ones, against the definition.
 func TestMatch(t *testing.T) {
-	short := words(4)
+	short := tree.Words(4)
 	var larger []api.Expr
 	for i := range 1000 {
-		s := source(i)
-		larger = append(larger, s.tree(6+i/100, 8, 2, allOps))
+		s := tree.Source(i)
+		larger = append(larger, s.Tree(6+i/100, 8, 2, tree.AllOps()))
 	}
-	for _, e := range slices.Concat(small(5), larger) {
+	for _, e := range slices.Concat(tree.Small(5), larger) {
 		for _, w := range short {
-			if got, want := expr.Match(e, w), belongs(e, w); got != want {
+			if got, want := expr.Match(e, w), tree.Belongs(e, w); got != want {
 				t.Fatalf("%s, %q: %v", expr.Format(e), w, got)
 			}
 		}
@@ -41,11 +42,11 @@ func TestMatchByHand(t *testing.T) {
 		{"!(!0aba!0)&(a|b)*", "abba", true}, {"!(!0aba!0)&(a|b)*", "bababb", false}, {"!0b&a!0", "ab", true}, {"!0b&a!0", "b", false}, {"a!(b)c", "abc", false}, {"a!(b)c", "ac", true}, {"a!b*c", "abbc", false}, {"a!b*c", "abac", true},
 		{"(a*b*)*", "babba", true}, {"(a*&b*)*", "a", false}, {"(a*&b*)*", "", true}, {"(1|a)(1|a)", "aaa", false}, {"((1|a)(1|b))*", "abba", true},
 	} {
-		if got := expr.Match(parse(t, c.s), c.w); got != c.want {
+		if got := expr.Match(tree.Parse(c.s), c.w); got != c.want {
 			t.Errorf("case %d, %s: %v", i, c.s, got)
 		}
 	}
-	for _, e := range invalid() {
+	for _, e := range tree.Invalid() {
 		for _, w := range []string{"", "a", "aa"} {
 			if expr.Match(e, w) {
 				t.Errorf("%v, %q: true", e, w)
@@ -77,11 +78,11 @@ func pattern(e api.Expr) string {
 func TestMatchLong(t *testing.T) {
 	outcomes := map[bool]int{}
 	for i := range 300 {
-		s := source(i)
-		e := s.tree(8+i/10, 12, 2, plainOps)
+		s := tree.Source(i)
+		e := s.Tree(8+i/10, 12, 2, tree.PlainOps())
 		re := regexp.MustCompile("^(?:" + pattern(e) + ")$")
 		for _, n := range []int{0, 1, 2, 5, 62, 63, 64, 65, 127, 128, 129} {
-			for _, w := range []string{s.long(n, 2), strings.Repeat("a", n), strings.Repeat("ab", n)[:n], s.member(e, n)} {
+			for _, w := range []string{s.Long(n, 2), strings.Repeat("a", n), strings.Repeat("ab", n)[:n], member(&s, e, n)} {
 				got, want := expr.Match(e, w), re.MatchString(w)
 				if got != want {
 					t.Fatalf("%s, %q: %v", expr.Format(e), w, got)
@@ -96,21 +97,21 @@ func TestMatchLong(t *testing.T) {
 }
 
 // member makes a word that is in the language of e if no part of e is empty; stars take parts until it has about n bytes.
-func (s *source) member(e api.Expr, n int) string {
+func member(s *tree.Source, e api.Expr, n int) string {
 	w := ""
 	switch e.Op {
 	case api.OpLetter:
 		w = "abcdef"[e.Letter : e.Letter+1]
 	case api.OpUnion:
-		w = s.member(e.Kids[s.below(len(e.Kids))], n)
+		w = member(s, e.Kids[s.Below(len(e.Kids))], n)
 	case api.OpConcat:
 		for _, kid := range e.Kids {
-			w += s.member(kid, n/len(e.Kids))
+			w += member(s, kid, n/len(e.Kids))
 		}
 	case api.OpStar:
 		for range n {
 			if len(w) < n {
-				w += s.member(e.Kids[0], n/4)
+				w += member(s, e.Kids[0], n/4)
 			}
 		}
 	}
@@ -133,7 +134,7 @@ func TestMatchCounts(t *testing.T) {
 		"a!0a":                  func(n int) bool { return n >= 2 },
 		"!0b!0":                 func(n int) bool { return false },
 	} {
-		e := parse(t, s)
+		e := tree.Parse(s)
 		for _, n := range slices.Concat(span(0, 20), span(60, 70), span(125, 132), []int{191, 192, 193, 319, 320, 321, 1000, api.MaxWord - 1, api.MaxWord}) {
 			if got := expr.Match(e, strings.Repeat("a", n)); got != want(n) {
 				t.Errorf("%s, %d letters: %v", s, n, got)

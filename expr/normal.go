@@ -15,23 +15,34 @@ func Normal(e api.Expr) api.Expr {
 }
 
 func normal(e api.Expr) api.Expr {
+	if len(e.Kids) == 0 {
+		return api.Expr{Op: e.Op, Letter: e.Letter}
+	}
 	kids := make([]api.Expr, len(e.Kids))
 	for i := range len(e.Kids) {
 		kids[i] = normal(e.Kids[i])
 	}
-	switch e.Op {
-	case api.OpNot:
-		return normalNot(kids[0])
-	case api.OpStar:
-		return normalStar(kids[0])
+	return Combine(e.Op, kids...)
+}
+
+// Combine returns the normal form of an operation on kids in normal form, whatever the size of the kids and of the result is.
+// A list operation may have any number of kids; if an operation cannot have these kids, the zero expression is returned.
+func Combine(op int, kids ...api.Expr) api.Expr {
+	switch op {
 	case api.OpConcat:
-		return normalList(e.Op, kids, empty(), unit())
+		return normalList(op, kids, empty(), unit())
 	case api.OpUnion:
-		return normalList(e.Op, kids, universal(), empty())
+		return normalList(op, kids, universal(), empty())
 	case api.OpAnd:
-		return normalList(e.Op, kids, empty(), universal())
+		return normalList(op, kids, empty(), universal())
 	}
-	return api.Expr{Op: e.Op, Letter: e.Letter}
+	switch {
+	case op == api.OpNot && len(kids) == 1:
+		return normalNot(kids[0])
+	case op == api.OpStar && len(kids) == 1:
+		return normalStar(kids[0])
+	}
+	return api.Expr{}
 }
 
 func empty() api.Expr {
@@ -52,7 +63,7 @@ func equal(a, b api.Expr) bool {
 }
 
 func normalNot(kid api.Expr) api.Expr {
-	if kid.Op == api.OpNot {
+	if kid.Op == api.OpNot && len(kid.Kids) == 1 {
 		return kid.Kids[0]
 	}
 	return api.Expr{Op: api.OpNot, Kids: []api.Expr{kid}}
@@ -71,8 +82,9 @@ func normalStar(kid api.Expr) api.Expr {
 // normalList returns the normal form of an operation on a list of normal kids.
 // The kid absorbing decides the result alone; the kid neutral makes no difference to it.
 func normalList(op int, kids []api.Expr, absorbing, neutral api.Expr) api.Expr {
-	var parts []api.Expr
-	for _, kid := range flat(op, kids) {
+	all := flat(op, kids)
+	parts := all[:0]
+	for _, kid := range all {
 		if equal(kid, absorbing) {
 			return absorbing
 		}
@@ -95,7 +107,7 @@ func normalList(op int, kids []api.Expr, absorbing, neutral api.Expr) api.Expr {
 
 // flat replaces each kid with the given Op by its kids.
 func flat(op int, kids []api.Expr) []api.Expr {
-	var parts []api.Expr
+	parts := make([]api.Expr, 0, len(kids))
 	for _, kid := range kids {
 		if kid.Op == op {
 			parts = append(parts, kid.Kids...)

@@ -9,6 +9,7 @@ import (
 
 	"semigroup/api"
 	"semigroup/expr"
+	"semigroup/tree"
 )
 
 // follows reports whether a text follows the grammar for one letter: operators and parentheses are taken away step by step until a letter is left.
@@ -79,7 +80,7 @@ func read(text string) api.Expr {
 			return before != '!' && behind != '*'
 		})
 		if len(parts) > 1 {
-			e := node(x.op)
+			e := tree.Node(x.op)
 			for _, part := range parts {
 				e.Kids = append(e.Kids, read(strings.TrimPrefix(part, x.sep)))
 			}
@@ -89,17 +90,17 @@ func read(text string) api.Expr {
 	last := len(text) - 1
 	switch {
 	case text[0] == '!':
-		return node(api.OpNot, read(text[1:]))
+		return tree.Node(api.OpNot, read(text[1:]))
 	case text[last] == '*':
-		return node(api.OpStar, read(text[:last]))
+		return tree.Node(api.OpStar, read(text[:last]))
 	case text[0] == '(':
 		return read(text[1:last])
 	case text == "0":
-		return node(api.OpEmpty)
+		return tree.Node(api.OpEmpty)
 	case text == "1":
-		return node(api.OpUnit)
+		return tree.Node(api.OpUnit)
 	}
-	return letter(int(text[0] - 'a'))
+	return tree.Letter(int(text[0] - 'a'))
 }
 
 // TestParseAll: P4.3, all short texts over one letter, with bytes that never fit, and longer ones over fewer bytes.
@@ -109,13 +110,13 @@ func TestParseAll(t *testing.T) {
 		e, at, why := expr.Parse(s, 1)
 		if !follows(s) {
 			refused++
-			if want := misfit(s); at != want || why != api.ErrSyntax || !same(e, api.Expr{}) {
+			if want := misfit(s); at != want || why != api.ErrSyntax || !tree.Same(e, api.Expr{}) {
 				t.Fatalf("%q: %v, offset %d, error %d, want offset %d", s, e, at, why, want)
 			}
 			return
 		}
 		accepted++
-		if want := read(strings.ReplaceAll(s, " ", "")); at != 0 || why != api.OK || !same(e, want) {
+		if want := read(strings.ReplaceAll(s, " ", "")); at != 0 || why != api.OK || !tree.Same(e, want) {
 			t.Fatalf("%q: %v, offset %d, error %d, want %v", s, e, at, why, want)
 		}
 	}
@@ -138,19 +139,19 @@ func TestParseAll(t *testing.T) {
 
 // TestParseTrees: P4.3, trees by hand.
 func TestParseTrees(t *testing.T) {
-	a, b, c := letter(0), letter(1), letter(2)
+	a, b, c := tree.Letter(0), tree.Letter(1), tree.Letter(2)
 	for s, want := range map[string]api.Expr{
-		"0": node(api.OpEmpty), "1": node(api.OpUnit), "a": a, "f": letter(5),
-		"a|b|c": node(api.OpUnion, a, b, c), "(a|b)|c": node(api.OpUnion, node(api.OpUnion, a, b), c), "a|(b|c)": node(api.OpUnion, a, node(api.OpUnion, b, c)),
-		"a&b&c": node(api.OpAnd, a, b, c), "(a&b)&c": node(api.OpAnd, node(api.OpAnd, a, b), c), "abc": node(api.OpConcat, a, b, c), "a(bc)": node(api.OpConcat, a, node(api.OpConcat, b, c)),
-		"((a|b|c))": node(api.OpUnion, a, b, c), "(((a)))": a, "c|b|c": node(api.OpUnion, c, b, c),
-		"a|b&c": node(api.OpUnion, a, node(api.OpAnd, b, c)), "a&b|c": node(api.OpUnion, node(api.OpAnd, a, b), c), "a&bc": node(api.OpAnd, a, node(api.OpConcat, b, c)), "(a|b)&c": node(api.OpAnd, node(api.OpUnion, a, b), c),
-		"a|!b*c": node(api.OpUnion, a, node(api.OpConcat, node(api.OpNot, node(api.OpStar, b)), c)),
-		"!ab":    node(api.OpConcat, node(api.OpNot, a), b), "!(ab)": node(api.OpNot, node(api.OpConcat, a, b)), "!a*": node(api.OpNot, node(api.OpStar, a)), "(!a)*": node(api.OpStar, node(api.OpNot, a)),
-		"!!a": node(api.OpNot, node(api.OpNot, a)), "a**": node(api.OpStar, node(api.OpStar, a)), "ab*": node(api.OpConcat, a, node(api.OpStar, b)), "(ab)*": node(api.OpStar, node(api.OpConcat, a, b)), "a*b": node(api.OpConcat, node(api.OpStar, a), b),
-		" ( a | ! b ) * c ": node(api.OpConcat, node(api.OpStar, node(api.OpUnion, a, node(api.OpNot, b))), c),
+		"0": tree.Node(api.OpEmpty), "1": tree.Node(api.OpUnit), "a": a, "f": tree.Letter(5),
+		"a|b|c": tree.Node(api.OpUnion, a, b, c), "(a|b)|c": tree.Node(api.OpUnion, tree.Node(api.OpUnion, a, b), c), "a|(b|c)": tree.Node(api.OpUnion, a, tree.Node(api.OpUnion, b, c)),
+		"a&b&c": tree.Node(api.OpAnd, a, b, c), "(a&b)&c": tree.Node(api.OpAnd, tree.Node(api.OpAnd, a, b), c), "abc": tree.Node(api.OpConcat, a, b, c), "a(bc)": tree.Node(api.OpConcat, a, tree.Node(api.OpConcat, b, c)),
+		"((a|b|c))": tree.Node(api.OpUnion, a, b, c), "(((a)))": a, "c|b|c": tree.Node(api.OpUnion, c, b, c),
+		"a|b&c": tree.Node(api.OpUnion, a, tree.Node(api.OpAnd, b, c)), "a&b|c": tree.Node(api.OpUnion, tree.Node(api.OpAnd, a, b), c), "a&bc": tree.Node(api.OpAnd, a, tree.Node(api.OpConcat, b, c)), "(a|b)&c": tree.Node(api.OpAnd, tree.Node(api.OpUnion, a, b), c),
+		"a|!b*c": tree.Node(api.OpUnion, a, tree.Node(api.OpConcat, tree.Node(api.OpNot, tree.Node(api.OpStar, b)), c)),
+		"!ab":    tree.Node(api.OpConcat, tree.Node(api.OpNot, a), b), "!(ab)": tree.Node(api.OpNot, tree.Node(api.OpConcat, a, b)), "!a*": tree.Node(api.OpNot, tree.Node(api.OpStar, a)), "(!a)*": tree.Node(api.OpStar, tree.Node(api.OpNot, a)),
+		"!!a": tree.Node(api.OpNot, tree.Node(api.OpNot, a)), "a**": tree.Node(api.OpStar, tree.Node(api.OpStar, a)), "ab*": tree.Node(api.OpConcat, a, tree.Node(api.OpStar, b)), "(ab)*": tree.Node(api.OpStar, tree.Node(api.OpConcat, a, b)), "a*b": tree.Node(api.OpConcat, tree.Node(api.OpStar, a), b),
+		" ( a | ! b ) * c ": tree.Node(api.OpConcat, tree.Node(api.OpStar, tree.Node(api.OpUnion, a, tree.Node(api.OpNot, b))), c),
 	} {
-		if e := parse(t, s); !same(e, want) {
+		if e := tree.Parse(s); !tree.Same(e, want) {
 			t.Errorf("%s: %v, want %v", s, e, want)
 		}
 	}
@@ -180,7 +181,7 @@ func TestParseErrors(t *testing.T) {
 		{strings.Repeat("!", api.MaxDepth-1) + "a", 2, 0, api.OK}, {strings.Repeat("!", api.MaxDepth) + "a", 2, 0, api.ErrLimit}, {strings.Repeat("!", api.MaxDepth) + "ac", 2, api.MaxDepth + 1, api.ErrSyntax}, {"a" + strings.Repeat("*", api.MaxDepth-1), 2, 0, api.OK}, {"a" + strings.Repeat("*", api.MaxDepth), 2, 0, api.ErrLimit},
 	} {
 		e, at, why := expr.Parse(c.s, c.letters)
-		if at != c.at || why != c.why || (why == api.OK) != (e.Op != 0) || why != api.OK && !same(e, api.Expr{}) {
+		if at != c.at || why != c.why || (why == api.OK) != (e.Op != 0) || why != api.OK && !tree.Same(e, api.Expr{}) {
 			t.Errorf("case %d: %v, offset %d, error %d, want offset %d, error %d", i, e, at, why, c.at, c.why)
 		}
 	}
@@ -195,22 +196,22 @@ func TestParseBytes(t *testing.T) {
 			var want api.Expr
 			switch {
 			case s == "0":
-				want = node(api.OpEmpty)
+				want = tree.Node(api.OpEmpty)
 			case s == "1":
-				want = node(api.OpUnit)
+				want = tree.Node(api.OpUnit)
 			case b >= 'a' && b < 'a'+letters:
-				want = letter(b - 'a')
+				want = tree.Letter(b - 'a')
 			default:
 				offset := 2
 				if s == " " || s == "!" || s == "(" {
 					offset = 3 // it fits, but the text ends too early
 				}
-				if at != offset || why != api.ErrSyntax || !same(e, api.Expr{}) {
+				if at != offset || why != api.ErrSyntax || !tree.Same(e, api.Expr{}) {
 					t.Errorf("%q over %d letters: %v, offset %d, error %d", s, letters, e, at, why)
 				}
 				continue
 			}
-			if at != 0 || why != api.OK || !same(e, node(api.OpUnion, letter(0), want)) {
+			if at != 0 || why != api.OK || !tree.Same(e, tree.Node(api.OpUnion, tree.Letter(0), want)) {
 				t.Errorf("%q over %d letters: %v, offset %d, error %d", s, letters, e, at, why)
 			}
 		}
@@ -219,7 +220,7 @@ func TestParseBytes(t *testing.T) {
 
 // TestFormat: P4.4, each kind of kid in each place of each kind of node.
 func TestFormat(t *testing.T) {
-	c := letter(2)
+	c := tree.Letter(2)
 	kids := []string{"0", "1", "b", "a|b", "a&b", "ab", "!a", "a*"}
 	for _, x := range []struct {
 		op   int
@@ -232,14 +233,14 @@ func TestFormat(t *testing.T) {
 		{api.OpStar, "0 1 b (a|b) (a&b) (ab) (!a) a*"},
 	} {
 		for i, text := range strings.Fields(x.want) {
-			kid := parse(t, kids[i])
+			kid := tree.Parse(kids[i])
 			sep := map[int]string{api.OpUnion: "|", api.OpAnd: "&"}[x.op]
-			e, want := node(x.op, kid, c, kid), text+sep+"c"+sep+text
+			e, want := tree.Node(x.op, kid, c, kid), text+sep+"c"+sep+text
 			switch x.op {
 			case api.OpNot:
-				e, want = node(x.op, kid), "!"+text
+				e, want = tree.Node(x.op, kid), "!"+text
 			case api.OpStar:
-				e, want = node(x.op, kid), text+"*"
+				e, want = tree.Node(x.op, kid), text+"*"
 			}
 			if got := expr.Format(e); got != want {
 				t.Errorf("%v: %q, want %q", e, got, want)
@@ -247,11 +248,11 @@ func TestFormat(t *testing.T) {
 		}
 	}
 	for number := range api.MaxLetters {
-		if got := expr.Format(letter(number)); got != "abcdef"[number:number+1] {
+		if got := expr.Format(tree.Letter(number)); got != "abcdef"[number:number+1] {
 			t.Errorf("letter %d: %q", number, got)
 		}
 	}
-	for _, e := range invalid() {
+	for _, e := range tree.Invalid() {
 		if got := expr.Format(e); got != "" {
 			t.Errorf("%v: %q", e, got)
 		}
@@ -260,12 +261,12 @@ func TestFormat(t *testing.T) {
 
 // TestRoundTrip: P4.5, and blanks before and after each byte (P4.3).
 func TestRoundTrip(t *testing.T) {
-	limits := []api.Expr{row(api.OpUnion, api.MaxNodes-1), row(api.OpConcat, api.MaxNodes-1), chain(api.OpStar, api.MaxDepth-1, letter(0)), chain(api.OpNot, api.MaxDepth-1, letter(5))}
-	full := row(api.OpConcat, 2)
+	limits := []api.Expr{tree.Row(api.OpUnion, api.MaxNodes-1), tree.Row(api.OpConcat, api.MaxNodes-1), tree.Chain(api.OpStar, api.MaxDepth-1, tree.Letter(0)), tree.Chain(api.OpNot, api.MaxDepth-1, tree.Letter(5))}
+	full := tree.Row(api.OpConcat, 2)
 	for range api.MaxDepth - 2 {
-		full = node(api.OpConcat, letter(5), full, row(api.OpUnion, 6))
+		full = tree.Node(api.OpConcat, tree.Letter(5), full, tree.Row(api.OpUnion, 6))
 	}
-	for _, e := range slices.Concat(small(5), scattered(300), limits, []api.Expr{full}) {
+	for _, e := range slices.Concat(tree.Small(5), tree.Scattered(300), limits, []api.Expr{full}) {
 		s := expr.Format(e)
 		if s == "" || strings.Contains(s, " ") {
 			t.Fatalf("%v: %q", e, s)
@@ -274,7 +275,7 @@ func TestRoundTrip(t *testing.T) {
 			if len(text) > api.MaxText {
 				continue
 			}
-			if back, at, why := expr.Parse(text, api.MaxLetters); at != 0 || why != api.OK || !same(back, e) {
+			if back, at, why := expr.Parse(text, api.MaxLetters); at != 0 || why != api.OK || !tree.Same(back, e) {
 				t.Fatalf("%q: %v, offset %d, error %d", text, back, at, why)
 			}
 		}
