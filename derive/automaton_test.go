@@ -9,6 +9,7 @@ import (
 	"semigroup/api"
 	"semigroup/derive"
 	"semigroup/expr"
+	"semigroup/machine"
 	"semigroup/tree"
 )
 
@@ -148,7 +149,7 @@ func TestGreatest(t *testing.T) {
 	if d.Done != 512 || len(d.Exprs) != 512 || !derive.Finished(d) || d.Next[511][0] != 1 {
 		t.Error(d.Done, len(d.Exprs))
 	}
-	if a, why := derive.Build(e, 1); why != api.OK || !sameAutomaton(a, automaton(d)) {
+	if a, why := derive.Build(e, 1); why != api.OK || !machine.SameDFA(a, automaton(d)) {
 		t.Error(a, why)
 	}
 	e = cycles(2)
@@ -168,10 +169,10 @@ func TestGreatest(t *testing.T) {
 	if x, why := derive.Step(d, -1); why != api.ErrArg || !sameState(x, api.Derivation{}) {
 		t.Error(x, why)
 	}
-	if a, why := derive.Automaton(d); why != api.ErrBudget || !sameAutomaton(a, api.DFA{}) {
+	if a, why := derive.Automaton(d); why != api.ErrBudget || !machine.SameDFA(a, api.DFA{}) {
 		t.Error(a, why)
 	}
-	if a, why := derive.Build(e, 1); why != api.ErrLimit || !sameAutomaton(a, api.DFA{}) {
+	if a, why := derive.Build(e, 1); why != api.ErrLimit || !machine.SameDFA(a, api.DFA{}) {
 		t.Error(a, why)
 	}
 	d.Exprs = append(slices.Clip(d.Exprs), d.Exprs[1])
@@ -209,7 +210,7 @@ func TestGreatestDerivative(t *testing.T) {
 		if next, why := derive.Step(list[0], c.steps+1); why != api.ErrLimit || !sameState(next, api.Derivation{}) {
 			t.Error(i, next, why)
 		}
-		if a, why := derive.Build(c.e, 2); why != api.ErrLimit || !sameAutomaton(a, api.DFA{}) {
+		if a, why := derive.Build(c.e, 2); why != api.ErrLimit || !machine.SameDFA(a, api.DFA{}) {
 			t.Error(i, a, why)
 		}
 	}
@@ -333,7 +334,7 @@ func refused(t *testing.T, d api.Derivation, why api.Errno) {
 	if derive.Finished(d) != (end == api.OK) {
 		t.Errorf("Finished: %v", d)
 	}
-	if a, got := derive.Automaton(d); got != end || end != api.OK && !sameAutomaton(a, api.DFA{}) {
+	if a, got := derive.Automaton(d); got != end || end != api.OK && !machine.SameDFA(a, api.DFA{}) {
 		t.Errorf("Automaton of %v: %v, %d", d, a, got)
 	}
 	for _, n := range []int{math.MinInt, -1} {
@@ -386,7 +387,7 @@ func TestValidateFirst(t *testing.T) {
 
 // TestAutomaton: P5.4 and P5.5, the fields, and the words over the letters that are accepted.
 func TestAutomaton(t *testing.T) {
-	short := tree.Words(4)
+	short := tree.Words(2, 4)
 	for _, e := range plain() {
 		list, _ := states(e, 2)
 		last := list[len(list)-1]
@@ -395,29 +396,20 @@ func TestAutomaton(t *testing.T) {
 			if d.Done == len(d.Exprs) {
 				want, wanted = automaton(last), api.OK
 			}
-			if a, why := derive.Automaton(d); why != wanted || !sameAutomaton(a, want) {
+			if a, why := derive.Automaton(d); why != wanted || !machine.SameDFA(a, want) {
 				t.Fatalf("%s, %d of %d: %v, %d, want %v, %d", expr.Format(e), d.Done, len(d.Exprs), a, why, want, wanted)
 			}
 		}
 		a, why := derive.Build(e, 2)
-		if why != api.OK || !sameAutomaton(a, automaton(last)) {
+		if why != api.OK || !machine.SameDFA(a, automaton(last)) {
 			t.Fatalf("%s: %v, %d", expr.Format(e), a, why)
 		}
 		for _, w := range short {
-			if accepts(a, w) != tree.Belongs(e, w) {
+			if machine.Accepts(a, w) != tree.Belongs(e, w) {
 				t.Fatalf("%s: %q", expr.Format(e), w)
 			}
 		}
 	}
-}
-
-// accepts runs an automaton.
-func accepts(a api.DFA, w string) bool {
-	q := a.Start
-	for i := range len(w) {
-		q = a.Next[q][w[i]-'a']
-	}
-	return a.Final[q]
 }
 
 // TestBuildLarge: P5.4 and P5.5, large expressions over all letters: the errors, and the words that are accepted.
@@ -435,11 +427,11 @@ func TestBuildLarge(t *testing.T) {
 		if why != api.OK {
 			continue
 		}
-		if !sameAutomaton(a, automaton(list[len(list)-1])) {
+		if !machine.SameDFA(a, automaton(list[len(list)-1])) {
 			t.Fatalf("%s: %v", expr.Format(e), a)
 		}
 		for n := range 30 {
-			if w := s.Long(n, api.MaxLetters); accepts(a, w) != expr.Match(e, w) {
+			if w := s.Long(n, api.MaxLetters); machine.Accepts(a, w) != expr.Match(e, w) {
 				t.Fatalf("%s: %q", expr.Format(e), w)
 			}
 		}
@@ -454,14 +446,14 @@ func TestBuildErrors(t *testing.T) {
 	for _, e := range slices.Concat(tree.Invalid(), tree.Small(2)) {
 		for _, letters := range []int{math.MinInt, 0, 1, 2, api.MaxLetters, api.MaxLetters + 1, math.MaxInt} {
 			wanted := expr.Validate(e, letters)
-			if a, why := derive.Build(e, letters); why != wanted || (why == api.OK) == sameAutomaton(a, api.DFA{}) {
+			if a, why := derive.Build(e, letters); why != wanted || (why == api.OK) == machine.SameDFA(a, api.DFA{}) {
 				t.Errorf("%v over %d letters: %v, %d", e, letters, a, why)
 			}
 		}
 	}
 	many := tree.Parse("(a|b)*a" + strings.Repeat("(a|b)", 9))
 	for letters, want := range map[int]api.Errno{1: api.ErrShape, 2: api.ErrLimit, 7: api.ErrArg} {
-		if a, why := derive.Build(many, letters); why != want || !sameAutomaton(a, api.DFA{}) {
+		if a, why := derive.Build(many, letters); why != want || !machine.SameDFA(a, api.DFA{}) {
 			t.Errorf("%d letters: %v, %d", letters, a, why)
 		}
 	}
@@ -524,7 +516,7 @@ func TestStateArguments(t *testing.T) {
 					t.Fatal("not the same results:", saved)
 				}
 				a, why := derive.Automaton(d)
-				if b, also := derive.Automaton(saved); why != also || !sameAutomaton(a, b) {
+				if b, also := derive.Automaton(saved); why != also || !machine.SameDFA(a, b) {
 					t.Fatal("not the same automaton:", saved)
 				}
 				scribble(x)

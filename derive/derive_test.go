@@ -138,7 +138,7 @@ func TestByLetterErrors(t *testing.T) {
 
 // TestByWord: P5.2, against derivatives by one letter after the other.
 func TestByWord(t *testing.T) {
-	short := tree.Words(4)
+	short := tree.Words(2, 4)
 	for _, e := range plain() {
 		for _, w := range short {
 			want, wanted := tree.NormalForm(e), api.OK
@@ -197,7 +197,7 @@ func TestByWordErrors(t *testing.T) {
 
 // TestByWordLanguage: P5.1 and P5.2, the definition of a derivative: w is in it if the word before it and w together are in the language.
 func TestByWordLanguage(t *testing.T) {
-	short := tree.Words(3)
+	short := tree.Words(2, 3)
 	for _, e := range plain() {
 		for _, u := range short {
 			d, why := derive.ByWord(e, u)

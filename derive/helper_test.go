@@ -109,10 +109,6 @@ func automaton(d api.Derivation) api.DFA {
 	return a
 }
 
-func sameAutomaton(a, b api.DFA) bool {
-	return a.Letters == b.Letters && a.Start == b.Start && slices.Equal(a.Final, b.Final) && slices.EqualFunc(a.Next, b.Next, slices.Equal[[]int])
-}
-
 // texts writes expressions for messages.
 func texts(list []api.Expr) []string {
 	var all []string

@@ -13,7 +13,7 @@ import (
 
 // TestMatch: P4.9, all small expressions and many larger ones, against the definition.
 func TestMatch(t *testing.T) {
-	short := tree.Words(4)
+	short := tree.Words(2, 4)
 	var larger []api.Expr
 	for i := range 1000 {
 		s := tree.Source(i)

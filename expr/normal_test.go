@@ -60,7 +60,7 @@ func TestNormalLarge(t *testing.T) {
 
 // TestNormalLanguage: P4.8, all small expressions and many large ones.
 func TestNormalLanguage(t *testing.T) {
-	short := tree.Words(4)
+	short := tree.Words(2, 4)
 	var large []api.Expr
 	for i := range 400 {
 		s := tree.Source(i)

@@ -9,6 +9,7 @@ import (
 
 	"semigroup/api"
 	"semigroup/expr"
+	"semigroup/machine"
 	"semigroup/nfa"
 	"semigroup/tree"
 )
@@ -121,7 +122,7 @@ func position(e api.Expr, letters int) api.NFA {
 	if tree.Belongs(e, "") {
 		final |= 1
 	}
-	return fromTable(letters, 1+len(nodes), 1, final, func(from, letter, to int) bool {
+	return machine.NFA(letters, 1+len(nodes), 1, final, func(from, letter, to int) bool {
 		return pairs[[2]int{from, to}] && nodes[to-1] == letter
 	})
 }
@@ -204,7 +205,7 @@ func TestPosition(t *testing.T) {
 		if len(letterNodes(e)) < api.MaxNFA {
 			want, wanted = position(e, letters), api.OK
 		}
-		if got, why := nfa.Position(e, letters); why != wanted || !same(got, want) || why == api.OK && nfa.Validate(got) != api.OK {
+		if got, why := nfa.Position(e, letters); why != wanted || !machine.SameNFA(got, want) || why == api.OK && nfa.Validate(got) != api.OK {
 			t.Fatalf("%s over %d letters: %v, %d, want %v, %d", expr.Format(e), letters, got, why, want, wanted)
 		}
 	}
@@ -218,7 +219,7 @@ func TestPartial(t *testing.T) {
 			letters = api.MaxLetters
 		}
 		want, _, wanted := partial(e, letters)
-		if got, why := nfa.Partial(e, letters); why != wanted || !same(got, want) || why == api.OK && nfa.Validate(got) != api.OK {
+		if got, why := nfa.Partial(e, letters); why != wanted || !machine.SameNFA(got, want) || why == api.OK && nfa.Validate(got) != api.OK {
 			t.Fatalf("%s over %d letters: %v, %d, want %v, %d", expr.Format(e), letters, got, why, want, wanted)
 		}
 	}
@@ -253,7 +254,7 @@ func TestPositionByHand(t *testing.T) {
 		{"((1|b)a)*", 2, made(0, 2), edges([3]int{0, 0, 2}, [3]int{0, 1, 1}, [3]int{1, 0, 2}, [3]int{2, 0, 2}, [3]int{2, 1, 1})},
 	} {
 		want := api.NFA{Letters: c.letters, States: 1 + len(letterNodes(tree.Parse(c.s))), Start: 1, Final: c.final, Edges: c.edges}
-		if got, why := nfa.Position(tree.Parse(c.s), c.letters); why != api.OK || !same(got, want) {
+		if got, why := nfa.Position(tree.Parse(c.s), c.letters); why != api.OK || !machine.SameNFA(got, want) {
 			t.Errorf("%s: %v, %d", c.s, got, why)
 		}
 	}
@@ -291,7 +292,7 @@ func TestPartialByHand(t *testing.T) {
 			texts = append(texts, expr.Format(p))
 		}
 		want := api.NFA{Letters: 3, States: len(c.states), Start: 1, Final: c.final, Edges: c.edges}
-		if got, why := nfa.Partial(e, 3); why != api.OK || !same(got, want) || !slices.Equal(texts, c.states) {
+		if got, why := nfa.Partial(e, 3); why != api.OK || !machine.SameNFA(got, want) || !slices.Equal(texts, c.states) {
 			t.Errorf("%s: %v, %d, states %q", c.s, got, why, texts)
 		}
 	}
@@ -320,7 +321,7 @@ func TestErrors(t *testing.T) {
 				if i == 1 && want == api.ErrLimit && expr.Validate(e, letters) == api.OK {
 					_, _, want = partial(e, letters)
 				}
-				if why != want || want != api.OK && !same(got, api.NFA{}) {
+				if why != want || want != api.OK && !machine.SameNFA(got, api.NFA{}) {
 					t.Fatalf("%d, %v over %d letters: %v, %d, want %d", i, e, letters, got, why, want)
 				}
 			}
@@ -349,7 +350,7 @@ func TestMaxStates(t *testing.T) {
 		e := tree.Parse(c.s)
 		for k, want := range []int{c.position, c.partial} {
 			got, why := []func(api.Expr, int) (api.NFA, api.Errno){nfa.Position, nfa.Partial}[k](e, 2)
-			if want == 0 && (why != api.ErrLimit || !same(got, api.NFA{})) || want > 0 && (why != api.OK || got.States != want || nfa.Validate(got) != api.OK) {
+			if want == 0 && (why != api.ErrLimit || !machine.SameNFA(got, api.NFA{})) || want > 0 && (why != api.OK || got.States != want || nfa.Validate(got) != api.OK) {
 				t.Errorf("case %d, %d: %d states, %d, want %d", i, k, got.States, why, want)
 			}
 		}
@@ -368,7 +369,7 @@ func TestLargeStates(t *testing.T) {
 	} {
 		want, states, wanted := partial(tree.Parse(c.s), 6)
 		got, why := nfa.Partial(tree.Parse(c.s), 6)
-		if why != wanted || (why == api.OK) != (c.states > 0) || !same(got, want) || got.States != c.states || bits.OnesCount64(got.Final) != c.final {
+		if why != wanted || (why == api.OK) != (c.states > 0) || !machine.SameNFA(got, want) || got.States != c.states || bits.OnesCount64(got.Final) != c.final {
 			t.Errorf("case %d: %v, %d, want %v, %d", i, got, why, want, wanted)
 		}
 		if why == api.OK && !slices.ContainsFunc(states, func(p api.Expr) bool { return expr.Validate(p, 6) == api.ErrLimit }) {
@@ -379,7 +380,7 @@ func TestLargeStates(t *testing.T) {
 
 // TestLanguage: P6.7, the words of an expression against those of both automata.
 func TestLanguage(t *testing.T) {
-	words := append(tree.Words(4), "c", "aca")
+	words := append(tree.Words(2, 4), "c", "aca")
 	for _, e := range plain() {
 		p, why := nfa.Position(e, 3)
 		d, wrong := nfa.Partial(e, 3)
@@ -470,15 +471,15 @@ func TestExpressionArguments(t *testing.T) {
 		before := tree.Clone(e)
 		p, why := nfa.Position(e, 6)
 		d, wrong := nfa.Partial(e, 6)
-		q, c := copied(p), copied(d)
-		scribble(p)
-		scribble(d)
+		q, c := machine.CloneNFA(p), machine.CloneNFA(d)
+		machine.ScribbleNFA(p)
+		machine.ScribbleNFA(d)
 		p, again := nfa.Position(e, 6)
-		if again != why || !same(p, q) {
+		if again != why || !machine.SameNFA(p, q) {
 			t.Fatalf("%v: %v, %d, and %v, %d", before, q, why, p, again)
 		}
 		d, again = nfa.Partial(e, 6)
-		if again != wrong || !same(d, c) {
+		if again != wrong || !machine.SameNFA(d, c) {
 			t.Fatalf("%v: %v, %d, and %v, %d", before, c, wrong, d, again)
 		}
 		if !tree.Untouched(e, before) {

@@ -1,28 +1,15 @@
 package nfa_test
 
 import (
-	"math"
 	"math/bits"
 	"slices"
 	"strings"
 
 	"semigroup/api"
-	"semigroup/tree"
+	"semigroup/machine"
 )
 
-// edges makes a list of edges of triples: from, letter, to.
-func edges(triples ...[3]int) []api.Edge {
-	var list []api.Edge
-	for _, x := range triples {
-		list = append(list, api.Edge{From: x[0], Letter: x[1], To: x[2]})
-	}
-	return list
-}
-
-// same compares two automata, field by field.
-func same(a, b api.NFA) bool {
-	return a.Letters == b.Letters && a.States == b.States && a.Start == b.Start && a.Final == b.Final && slices.Equal(a.Edges, b.Edges)
-}
+var edges = machine.Edges
 
 // in reports whether a state belongs to a set.
 func in(state int, set uint64) bool {
@@ -32,64 +19,6 @@ func in(state int, set uint64) bool {
 // has reports whether n has an edge.
 func has(n api.NFA, from, letter, to int) bool {
 	return slices.Contains(n.Edges, api.Edge{From: from, Letter: letter, To: to})
-}
-
-// fromTable makes the automaton with those edges of which edge is true.
-func fromTable(letters, states int, start, final uint64, edge func(from, letter, to int) bool) api.NFA {
-	n := api.NFA{Letters: letters, States: states, Start: start, Final: final}
-	for from := range states {
-		for letter := range letters {
-			for to := range states {
-				if edge(from, letter, to) {
-					n.Edges = append(n.Edges, api.Edge{From: from, Letter: letter, To: to})
-				}
-			}
-		}
-	}
-	return n
-}
-
-// all lists all automata with so many letters and states.
-func all(letters, states int) []api.NFA {
-	var list []api.NFA
-	sets := uint64(1) << states
-	for code := range 1 << (states * letters * states) {
-		edge := func(from, letter, to int) bool { return code>>((from*letters+letter)*states+to)&1 == 1 }
-		for start := range sets {
-			for final := range sets {
-				list = append(list, fromTable(letters, states, start, final, edge))
-			}
-		}
-	}
-	return list
-}
-
-// few lists all automata with one letter and at most three states, or with two letters and at most two states.
-func few() []api.NFA {
-	return slices.Concat(all(1, 0), all(1, 1), all(1, 2), all(1, 3), all(2, 0), all(2, 1), all(2, 2))
-}
-
-// random makes an automaton in which about one of sparse possible edges is there.
-func random(s *tree.Source, letters, states, sparse int) api.NFA {
-	set := func() uint64 {
-		var set uint64
-		for range 1 + states/8 {
-			set |= 1 << s.Below(max(states, 1))
-		}
-		return set & (1<<states - 1)
-	}
-	return fromTable(letters, states, set(), set(), func(from, letter, to int) bool { return s.Below(sparse) == 0 })
-}
-
-// scattered lists automata of all sizes.
-func scattered(count int) []api.NFA {
-	var list []api.NFA
-	for i := range count {
-		s := tree.Source(i)
-		states := i * api.MaxNFA / max(count-1, 1)
-		list = append(list, random(&s, 1+s.Below(api.MaxLetters), states, 1+s.Below(4*states+1)))
-	}
-	return list
 }
 
 // runs is the definition of the number of accepting runs.
@@ -116,61 +45,6 @@ func runs(n api.NFA, w string) int {
 	return count
 }
 
-// wrong is an automaton that is not valid.
-type wrong struct {
-	n   api.NFA
-	why api.Errno
-}
-
-// one accepts all words over two letters, by runs through all of its three states, some of them by several.
-func one() api.NFA {
-	return api.NFA{Letters: 2, States: 3, Start: 5, Final: 7, Edges: edges([3]int{0, 0, 0}, [3]int{0, 0, 1}, [3]int{0, 1, 2}, [3]int{1, 0, 2}, [3]int{1, 1, 0}, [3]int{2, 0, 0}, [3]int{2, 1, 1})}
-}
-
-// wrongs lists automata that differ from a valid one, so that one field or two are wrong.
-func wrongs() []wrong {
-	var list []wrong
-	add := func(why api.Errno, edit func(n *api.NFA)) {
-		n := one()
-		edit(&n)
-		list = append(list, wrong{n, why})
-	}
-	for _, x := range []int{math.MinInt, -1, 0, api.MaxLetters + 1, 1<<32 + 2, math.MaxInt} {
-		add(api.ErrArg, func(n *api.NFA) { n.Letters = x })
-		add(api.ErrArg, func(n *api.NFA) { n.Letters, n.Edges = x, nil })
-		add(api.ErrArg, func(n *api.NFA) { n.Letters, n.Start = x, 8 })
-		add(api.ErrArg, func(n *api.NFA) { n.Letters, n.Edges[0].From = x, -1 })
-	}
-	for _, x := range []int{math.MinInt, -64, -1, api.MaxNFA + 1, 1<<32 + 3, math.MaxInt} {
-		add(api.ErrArg, func(n *api.NFA) { n.States = x })
-		add(api.ErrArg, func(n *api.NFA) { n.States, n.Final = x, 1<<63 })
-		add(api.ErrArg, func(n *api.NFA) { n.States, n.Edges[1] = x, n.Edges[0] })
-	}
-	add(api.ErrShape, func(n *api.NFA) { n.Letters = 1 })
-	add(api.ErrShape, func(n *api.NFA) { n.States = 2 })
-	add(api.ErrShape, func(n *api.NFA) { n.States, n.Edges = 2, nil })
-	add(api.ErrShape, func(n *api.NFA) { n.States, n.Start, n.Final = 2, 1, 1 })
-	add(api.ErrShape, func(n *api.NFA) { n.States, n.Start, n.Final, n.Edges = 0, 0, 0, n.Edges[:1] })
-	for bit := 3; bit < 64; bit += 20 {
-		add(api.ErrShape, func(n *api.NFA) { n.Start |= 1 << bit })
-		add(api.ErrShape, func(n *api.NFA) { n.Final |= 1 << bit })
-	}
-	for i := range one().Edges {
-		for _, x := range []int{math.MinInt, -1, 3, 64, 1 << 32, math.MaxInt} {
-			add(api.ErrShape, func(n *api.NFA) { n.Edges[i].From = x })
-			add(api.ErrShape, func(n *api.NFA) { n.Edges[i].Letter = x })
-			add(api.ErrShape, func(n *api.NFA) { n.Edges[i].To = x })
-		}
-		add(api.ErrShape, func(n *api.NFA) { n.Edges[i].Letter = 2 })
-		add(api.ErrShape, func(n *api.NFA) { n.Edges = slices.Insert(n.Edges, i, n.Edges[i]) })
-		if i > 0 {
-			add(api.ErrShape, func(n *api.NFA) { n.Edges[i], n.Edges[i-1] = n.Edges[i-1], n.Edges[i] })
-			add(api.ErrShape, func(n *api.NFA) { n.Edges = append(n.Edges, n.Edges[i-1]) })
-		}
-	}
-	return list
-}
-
 // backwards reverses a word.
 func backwards(w string) string {
 	var b strings.Builder
@@ -178,34 +52,4 @@ func backwards(w string) string {
 		b.WriteByte(w[len(w)-1-i])
 	}
 	return b.String()
-}
-
-// spare gives the list of edges some capacity behind its end.
-func spare(n api.NFA) api.NFA {
-	n.Edges = append(make([]api.Edge, 0, len(n.Edges)+3), n.Edges...)
-	rest := n.Edges[len(n.Edges):cap(n.Edges)]
-	for i := range rest {
-		rest[i] = api.Edge{From: 77, Letter: i, To: 77}
-	}
-	return n
-}
-
-// copied copies an automaton, with what lies behind its list.
-func copied(n api.NFA) api.NFA {
-	n.Edges = slices.Clone(n.Edges[:cap(n.Edges)])[:len(n.Edges)]
-	return n
-}
-
-// untouched compares an automaton with its copy.
-func untouched(n, copied api.NFA) bool {
-	more := cap(n.Edges)
-	return same(n, copied) && slices.Equal(n.Edges[:more], copied.Edges[:more])
-}
-
-// scribble writes over an automaton.
-func scribble(n api.NFA) {
-	list := n.Edges[:cap(n.Edges)]
-	for i := range list {
-		list[i] = api.Edge{From: 99, Letter: 99, To: 99}
-	}
 }

@@ -7,22 +7,23 @@ import (
 	"testing"
 
 	"semigroup/api"
+	"semigroup/machine"
 	"semigroup/nfa"
 	"semigroup/tree"
 )
 
 // TestValidate: P6.1, automata that are valid, without states and with MaxNFA states among them.
 func TestValidate(t *testing.T) {
-	list := slices.Concat(few(), scattered(65))
+	list := slices.Concat(machine.FewNFA(), machine.ScatteredNFA(65))
 	for letters := 1; letters <= api.MaxLetters; letters++ {
 		for states := 0; states <= api.MaxNFA; states++ {
 			full := uint64(1)<<states - 1
 			list = append(list, api.NFA{Letters: letters, States: states}, api.NFA{Letters: letters, States: states, Start: full, Final: full})
 		}
 	}
-	list = append(list, one(),
+	list = append(list, machine.ThreeStates(),
 		api.NFA{Letters: 6, States: 64, Start: 1 << 63, Final: 1 << 63, Edges: edges([3]int{63, 5, 63})},
-		fromTable(6, 64, 1, 1, func(from, letter, to int) bool { return true }),
+		machine.NFA(6, 64, 1, 1, func(from, letter, to int) bool { return true }),
 		api.NFA{Letters: 1, States: 1, Edges: []api.Edge{}},
 	)
 	for _, n := range list {
@@ -34,9 +35,9 @@ func TestValidate(t *testing.T) {
 
 // TestValidateErrors: P6.1, wrong fields, and the order of the errors.
 func TestValidateErrors(t *testing.T) {
-	for i, c := range wrongs() {
-		if why := nfa.Validate(c.n); why != c.why {
-			t.Errorf("case %d, %v: %d, want %d", i, c.n, why, c.why)
+	for i, c := range machine.WrongNFAs() {
+		if why := nfa.Validate(c.N); why != c.Why {
+			t.Errorf("case %d, %v: %d, want %d", i, c.N, why, c.Why)
 		}
 	}
 	for _, states := range []int{0, 1, 31, 32, 33, 63} {
@@ -52,7 +53,7 @@ func TestValidateErrors(t *testing.T) {
 
 // TestValidateOrder: P6.1, all pairs of edges, equal ones among them, and an edge that does not fit between others that do.
 func TestValidateOrder(t *testing.T) {
-	every := fromTable(2, 3, 0, 0, func(from, letter, to int) bool { return true })
+	every := machine.NFA(2, 3, 0, 0, func(from, letter, to int) bool { return true })
 	for i := range every.Edges {
 		for j := range every.Edges {
 			n := api.NFA{Letters: 2, States: 3, Edges: []api.Edge{every.Edges[i], every.Edges[j]}}
@@ -69,22 +70,22 @@ func TestValidateOrder(t *testing.T) {
 
 // TestInvalid: P6.1, the zero values for automata that are not valid, and the errors of Sum.
 func TestInvalid(t *testing.T) {
-	for i, c := range wrongs() {
+	for i, c := range machine.WrongNFAs() {
 		for letter := -1; letter <= api.MaxLetters; letter++ {
-			if nfa.Step(c.n, math.MaxUint64, letter) != 0 {
+			if nfa.Step(c.N, math.MaxUint64, letter) != 0 {
 				t.Errorf("case %d: Step with %d", i, letter)
 			}
 		}
-		for _, w := range tree.Words(3) {
-			if nfa.Accepts(c.n, w) || nfa.Runs(c.n, w) != 0 {
+		for _, w := range tree.Words(2, 3) {
+			if nfa.Accepts(c.N, w) || nfa.Runs(c.N, w) != 0 {
 				t.Errorf("case %d: %q", i, w)
 			}
 		}
-		if !same(nfa.Reverse(c.n), api.NFA{}) || !same(nfa.Trim(c.n), api.NFA{}) || nfa.Reachable(c.n) != 0 || nfa.Coreachable(c.n) != 0 || nfa.Unambiguous(c.n) {
-			t.Errorf("case %d: not zero: %v", i, c.n)
+		if !machine.SameNFA(nfa.Reverse(c.N), api.NFA{}) || !machine.SameNFA(nfa.Trim(c.N), api.NFA{}) || nfa.Reachable(c.N) != 0 || nfa.Coreachable(c.N) != 0 || nfa.Unambiguous(c.N) {
+			t.Errorf("case %d: not zero: %v", i, c.N)
 		}
-		c.n.Start, c.n.Final, c.n.Edges = 0, 0, nil
-		if why := nfa.Validate(c.n); why != api.OK && nfa.Unambiguous(c.n) {
+		c.N.Start, c.N.Final, c.N.Edges = 0, 0, nil
+		if why := nfa.Validate(c.N); why != api.OK && nfa.Unambiguous(c.N) {
 			t.Errorf("case %d: Unambiguous", i)
 		}
 	}
@@ -93,7 +94,7 @@ func TestInvalid(t *testing.T) {
 // TestStep: P6.2, all sets of states of small automata, with bits that stand for no states, and letters out of range.
 func TestStep(t *testing.T) {
 	letters := []int{math.MinInt, -1, 0, 1, 2, 5, 6, 64, 1 << 32, math.MaxInt}
-	for _, n := range few() {
+	for _, n := range machine.FewNFA() {
 		for set := range uint64(1) << (n.States + 1) {
 			for _, letter := range letters {
 				var want uint64
@@ -110,7 +111,7 @@ func TestStep(t *testing.T) {
 			}
 		}
 	}
-	cycle := fromTable(6, 64, 1, 1, func(from, letter, to int) bool { return to == (from+letter)%64 })
+	cycle := machine.NFA(6, 64, 1, 1, func(from, letter, to int) bool { return to == (from+letter)%64 })
 	for letter := range 6 {
 		set := uint64(1<<63 | 1<<40 | 1)
 		if got, want := nfa.Step(cycle, set, letter), set<<letter|set>>(64-letter); got != want {
@@ -133,16 +134,12 @@ func checkRuns(t *testing.T, n api.NFA, w string) {
 
 // TestRuns: P6.2, all small automata, and random ones of all sizes.
 func TestRuns(t *testing.T) {
-	for _, n := range few() {
-		words := tree.Words(4)
-		if n.Letters == 1 {
-			words = []string{"", "a", "aa", "aaa", "aaaa"}
-		}
-		for _, w := range words {
+	for _, n := range machine.FewNFA() {
+		for _, w := range tree.Words(n.Letters, 4) {
 			checkRuns(t, n, w)
 		}
 	}
-	for i, n := range scattered(200) {
+	for i, n := range machine.ScatteredNFA(200) {
 		s := tree.Source(i)
 		for k := range 4 {
 			checkRuns(t, n, s.Long(k, n.Letters))
@@ -153,7 +150,7 @@ func TestRuns(t *testing.T) {
 // TestWords: P6.2, what is no word over the letters of the automaton, and the longest words.
 func TestWords(t *testing.T) {
 	for letters := 1; letters <= api.MaxLetters; letters++ {
-		n := fromTable(letters, 1, 1, 1, func(from, letter, to int) bool { return true })
+		n := machine.NFA(letters, 1, 1, 1, func(from, letter, to int) bool { return true })
 		long := strings.Repeat("a", api.MaxWord)
 		for w, want := range map[string]bool{
 			"": true, "a": true, "b": letters > 1, "bab": letters > 1, "c": letters > 2, "f": letters > 5, "af": letters > 5, "fa": letters > 5, "g": false, "ag": false,
@@ -173,7 +170,7 @@ func TestWords(t *testing.T) {
 // TestManyRuns: P6.2, words with about 2^31 runs and with many more, and words that have few accepting runs among many others.
 func TestManyRuns(t *testing.T) {
 	full := func(states int, start, final uint64) api.NFA {
-		return fromTable(2, states, start, final, func(from, letter, to int) bool { return letter == 0 })
+		return machine.NFA(2, states, start, final, func(from, letter, to int) bool { return letter == 0 })
 	}
 	// less has one accepting run less than there are lists of two things.
 	less := api.NFA{Letters: 2, States: 3, Start: 1, Final: 6, Edges: edges([3]int{0, 0, 0}, [3]int{0, 0, 1}, [3]int{1, 0, 1}, [3]int{1, 0, 2}, [3]int{2, 0, 1}, [3]int{2, 0, 2})}
@@ -222,20 +219,20 @@ func TestUnambiguous(t *testing.T) {
 	for n := range 9 {
 		powers = append(powers, strings.Repeat("a", n))
 	}
-	for _, n := range few() {
+	for _, n := range machine.FewNFA() {
 		words := powers
 		if n.Letters == 2 {
-			words = tree.Words(4)
+			words = tree.Words(2, 4)
 		}
 		if got := nfa.Unambiguous(n); got == ambiguous(n, words) {
 			t.Fatalf("%v: %t", n, got)
 		}
 	}
-	words := tree.Words(8)
+	words := tree.Words(2, 8)
 	count := 0
 	for i := range 1500 {
 		s := tree.Source(i)
-		n := random(&s, 2, 3, 3)
+		n := machine.RandomNFA(&s, 2, 3, 3)
 		got := nfa.Unambiguous(n)
 		if got == ambiguous(n, words) {
 			t.Fatalf("%v: %t", n, got)
@@ -251,7 +248,7 @@ func TestUnambiguous(t *testing.T) {
 
 // cycles has a start state in each of two cycles, which a letter leads around; the states x and y of the two are final.
 func cycles(one, two, x, y int) api.NFA {
-	return fromTable(1, one+two, 1|1<<one, 1<<x|1<<(one+y), func(from, letter, to int) bool {
+	return machine.NFA(1, one+two, 1|1<<one, 1<<x|1<<(one+y), func(from, letter, to int) bool {
 		if from < one {
 			return to == (from+1)%one
 		}
@@ -261,7 +258,7 @@ func cycles(one, two, x, y int) api.NFA {
 
 // TestUnambiguousByHand: P6.2, automata with useless states, with MaxNFA states, and with two runs for long words alone.
 func TestUnambiguousByHand(t *testing.T) {
-	chain := fromTable(6, 64, 1, math.MaxUint64, func(from, letter, to int) bool { return to == from+1 })
+	chain := machine.NFA(6, 64, 1, math.MaxUint64, func(from, letter, to int) bool { return to == from+1 })
 	for i, c := range []struct {
 		n    api.NFA
 		want bool
@@ -275,7 +272,7 @@ func TestUnambiguousByHand(t *testing.T) {
 		{api.NFA{Letters: 2, States: 4, Start: 1, Final: 8, Edges: edges([3]int{0, 0, 1}, [3]int{0, 0, 2}, [3]int{1, 0, 3}, [3]int{2, 0, 3})}, false},
 		{api.NFA{Letters: 2, States: 4, Start: 1, Final: 8, Edges: edges([3]int{0, 0, 1}, [3]int{0, 1, 2}, [3]int{1, 0, 3}, [3]int{2, 0, 3})}, true},
 		{api.NFA{Letters: 2, States: 4, Start: 0, Final: 8, Edges: edges([3]int{0, 0, 1}, [3]int{0, 0, 2}, [3]int{1, 0, 3}, [3]int{2, 0, 3})}, true},
-		{chain, true}, {nfa.Reverse(chain), true}, {fromTable(6, 64, 1, 1, func(from, letter, to int) bool { return true }), false},
+		{chain, true}, {nfa.Reverse(chain), true}, {machine.NFA(6, 64, 1, 1, func(from, letter, to int) bool { return true }), false},
 		{cycles(31, 33, 30, 32), false}, {cycles(32, 32, 30, 31), true}, {cycles(32, 32, 31, 31), false}, {cycles(30, 33, 0, 1), true}, {cycles(30, 33, 29, 32), false}, {cycles(30, 33, 29, 31), true},
 	} {
 		if got := nfa.Unambiguous(c.n); got != c.want {
@@ -286,7 +283,7 @@ func TestUnambiguousByHand(t *testing.T) {
 
 // TestReverse: P6.3, against the definition: which edges there are, and that the result is valid. Twice reversed is not changed.
 func TestReverse(t *testing.T) {
-	for _, n := range slices.Concat(few(), scattered(65)) {
+	for _, n := range slices.Concat(machine.FewNFA(), machine.ScatteredNFA(65)) {
 		want := api.NFA{Letters: n.Letters, States: n.States, Start: n.Final, Final: n.Start}
 		for _, e := range n.Edges {
 			want.Edges = append(want.Edges, api.Edge{From: e.To, Letter: e.Letter, To: e.From})
@@ -295,7 +292,7 @@ func TestReverse(t *testing.T) {
 			return (a.From-b.From)*1000000 + (a.Letter-b.Letter)*1000 + a.To - b.To
 		})
 		got := nfa.Reverse(n)
-		if !same(got, want) || nfa.Validate(got) != api.OK || !same(nfa.Reverse(got), n) {
+		if !machine.SameNFA(got, want) || nfa.Validate(got) != api.OK || !machine.SameNFA(nfa.Reverse(got), n) {
 			t.Fatalf("%v: %v", n, got)
 		}
 	}
@@ -356,7 +353,7 @@ func trimmed(n api.NFA) api.NFA {
 // TestTrim: P6.3, Reachable, Coreachable and Trim against the definitions.
 func TestTrim(t *testing.T) {
 	sizes := map[int]bool{}
-	for _, n := range slices.Concat(few(), scattered(1000)) {
+	for _, n := range slices.Concat(machine.FewNFA(), machine.ScatteredNFA(1000)) {
 		if got := nfa.Reachable(n); got != reached(n) {
 			t.Fatalf("%v: reachable %b, want %b", n, got, reached(n))
 		}
@@ -364,7 +361,7 @@ func TestTrim(t *testing.T) {
 			t.Fatalf("%v: coreachable %b, want %b", n, got, leading(n))
 		}
 		got := nfa.Trim(n)
-		if !same(got, trimmed(n)) || nfa.Validate(got) != api.OK {
+		if !machine.SameNFA(got, trimmed(n)) || nfa.Validate(got) != api.OK {
 			t.Fatalf("%v: %v, want %v", n, got, trimmed(n))
 		}
 		sizes[got.States*100/max(n.States, 1)] = true
@@ -376,8 +373,8 @@ func TestTrim(t *testing.T) {
 
 // TestTrimByHand: P6.3, states on no run, at either end and in the middle.
 func TestTrimByHand(t *testing.T) {
-	line := fromTable(2, 64, 1, 1<<63, func(from, letter, to int) bool { return to == from+1 && letter == from%2 })
-	cut := copied(line)
+	line := machine.NFA(2, 64, 1, 1<<63, func(from, letter, to int) bool { return to == from+1 && letter == from%2 })
+	cut := machine.CloneNFA(line)
 	cut.Edges = slices.Delete(cut.Edges, 40, 41)
 	for i, c := range []struct {
 		n                      api.NFA
@@ -393,7 +390,7 @@ func TestTrimByHand(t *testing.T) {
 		{api.NFA{Letters: 2, States: 6, Start: 10, Final: 16, Edges: edges([3]int{0, 0, 4}, [3]int{0, 1, 1}, [3]int{1, 0, 2}, [3]int{1, 0, 3}, [3]int{1, 1, 1}, [3]int{3, 1, 4}, [3]int{4, 0, 2}, [3]int{4, 1, 1})}, 30, 27,
 			api.NFA{Letters: 2, States: 3, Start: 3, Final: 4, Edges: edges([3]int{0, 0, 1}, [3]int{0, 1, 0}, [3]int{1, 1, 2}, [3]int{2, 1, 0})}},
 	} {
-		if x, y, n := nfa.Reachable(c.n), nfa.Coreachable(c.n), nfa.Trim(c.n); x != c.reachable || y != c.coreachable || !same(n, c.trim) {
+		if x, y, n := nfa.Reachable(c.n), nfa.Coreachable(c.n), nfa.Trim(c.n); x != c.reachable || y != c.coreachable || !machine.SameNFA(n, c.trim) {
 			t.Errorf("case %d: %b, %b, %v", i, x, y, n)
 		}
 	}
@@ -401,7 +398,7 @@ func TestTrimByHand(t *testing.T) {
 
 // TestSum: P6.4, against the definition.
 func TestSum(t *testing.T) {
-	list := slices.Concat(all(1, 0), all(1, 1), all(1, 2)[:200], scattered(65))
+	list := slices.Concat(machine.AllNFA(1, 0), machine.AllNFA(1, 1), machine.AllNFA(1, 2)[:200], machine.ScatteredNFA(65))
 	for _, a := range list {
 		for _, b := range list {
 			want, wanted := api.NFA{}, api.OK
@@ -411,7 +408,7 @@ func TestSum(t *testing.T) {
 			case a.States+b.States > api.MaxNFA:
 				wanted = api.ErrLimit
 			default:
-				want = fromTable(a.Letters, a.States+b.States, 0, 0, func(from, letter, to int) bool { return false })
+				want = machine.NFA(a.Letters, a.States+b.States, 0, 0, func(from, letter, to int) bool { return false })
 				for state := range want.States {
 					if state < a.States && in(state, a.Start) || state >= a.States && in(state-a.States, b.Start) {
 						want.Start |= 1 << state
@@ -426,7 +423,7 @@ func TestSum(t *testing.T) {
 				}
 			}
 			got, why := nfa.Sum(a, b)
-			if why != wanted || !same(got, want) || why == api.OK && nfa.Validate(got) != api.OK {
+			if why != wanted || !machine.SameNFA(got, want) || why == api.OK && nfa.Validate(got) != api.OK {
 				t.Fatalf("%v and %v: %v, %d, want %v, %d", a, b, got, why, want, wanted)
 			}
 		}
@@ -437,15 +434,15 @@ func TestSum(t *testing.T) {
 func TestSumErrors(t *testing.T) {
 	of := func(letters, states int) api.NFA {
 		full := uint64(1)<<states - 1
-		return fromTable(letters, states, full, full, func(from, letter, to int) bool { return from == to })
+		return machine.NFA(letters, states, full, full, func(from, letter, to int) bool { return from == to })
 	}
-	for _, c := range wrongs() {
+	for _, c := range machine.WrongNFAs() {
 		for _, n := range []api.NFA{of(2, 3), of(1, 3), of(1, 64), of(2, 64)} {
-			if got, why := nfa.Sum(c.n, n); why != c.why || !same(got, api.NFA{}) {
-				t.Errorf("%v and %v: %v, %d", c.n, n, got, why)
+			if got, why := nfa.Sum(c.N, n); why != c.Why || !machine.SameNFA(got, api.NFA{}) {
+				t.Errorf("%v and %v: %v, %d", c.N, n, got, why)
 			}
-			if got, why := nfa.Sum(n, c.n); why != c.why || !same(got, api.NFA{}) {
-				t.Errorf("%v and %v: %v, %d", n, c.n, got, why)
+			if got, why := nfa.Sum(n, c.N); why != c.Why || !machine.SameNFA(got, api.NFA{}) {
+				t.Errorf("%v and %v: %v, %d", n, c.N, got, why)
 			}
 		}
 	}
@@ -463,7 +460,7 @@ func TestSumErrors(t *testing.T) {
 		if c.why == api.OK {
 			want = of(c.a.Letters, c.a.States+c.b.States)
 		}
-		if got, why := nfa.Sum(c.a, c.b); why != c.why || !same(got, want) {
+		if got, why := nfa.Sum(c.a, c.b); why != c.why || !machine.SameNFA(got, want) {
 			t.Errorf("case %d: %v, %d", i, got, why)
 		}
 	}
@@ -471,10 +468,10 @@ func TestSumErrors(t *testing.T) {
 
 // TestLanguages: P6.2 to P6.4, the words that the results accept: reversed words, the same words, and words of one or the other.
 func TestLanguages(t *testing.T) {
-	words := tree.Words(5)
+	words := tree.Words(2, 5)
 	for i := range 300 {
 		s := tree.Source(i)
-		a, b := random(&s, 2, 1+s.Below(5), 4), random(&s, 2, s.Below(5), 3)
+		a, b := machine.RandomNFA(&s, 2, 1+s.Below(5), 4), machine.RandomNFA(&s, 2, s.Below(5), 3)
 		sum, why := nfa.Sum(a, b)
 		if why != api.OK {
 			t.Fatal(why)
@@ -490,13 +487,13 @@ func TestLanguages(t *testing.T) {
 
 // TestArguments: R3 and R4, automata that other memory lies behind, and results that share none with the arguments.
 func TestArguments(t *testing.T) {
-	list := slices.Concat(scattered(65), []api.NFA{one(), {Letters: 1}})
-	for _, c := range wrongs() {
-		list = append(list, c.n)
+	list := slices.Concat(machine.ScatteredNFA(65), []api.NFA{machine.ThreeStates(), {Letters: 1}})
+	for _, c := range machine.WrongNFAs() {
+		list = append(list, c.N)
 	}
 	for _, n := range list {
-		n = spare(n)
-		before := copied(n)
+		n = machine.SpareNFA(n)
+		before := machine.CloneNFA(n)
 		var first []api.NFA
 		for i := range 2 {
 			twice, _ := nfa.Sum(n, n)
@@ -509,14 +506,14 @@ func TestArguments(t *testing.T) {
 			nfa.Unambiguous(n)
 			if i == 0 {
 				for _, x := range results {
-					first = append(first, copied(x))
-					scribble(x)
+					first = append(first, machine.CloneNFA(x))
+					machine.ScribbleNFA(x)
 				}
-			} else if !slices.EqualFunc(first, results, same) {
+			} else if !slices.EqualFunc(first, results, machine.SameNFA) {
 				t.Fatal("not the same results:", n)
 			}
 		}
-		if !untouched(n, before) {
+		if !machine.UntouchedNFA(n, before) {
 			t.Fatal("an argument was modified:", before)
 		}
 	}

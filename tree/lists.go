@@ -78,11 +78,13 @@ func Invalid() []api.Expr {
 	return wrong
 }
 
-// Words lists the words over two letters of length at most n.
-func Words(n int) []string {
+// Words lists the words over the first letters of length at most n, in shortlex order.
+func Words(letters, n int) []string {
 	list := []string{""}
 	for i := 0; len(list[i]) < n; i++ {
-		list = append(list, list[i]+"a", list[i]+"b")
+		for letter := range letters {
+			list = append(list, list[i]+string(rune('a'+letter)))
+		}
 	}
 	return list
 }
