@@ -14,16 +14,6 @@ import (
 	"semigroup/tree"
 )
 
-// odd accepts the words with an odd number of a.
-func odd() api.DFA {
-	return api.DFA{Letters: 2, Final: []bool{false, true}, Next: [][]int{{1, 0}, {0, 1}}}
-}
-
-// whole accepts all words, or none.
-func whole(letters int, accepted bool) api.DFA {
-	return machine.DFA(letters, 0, []bool{accepted}, func(state, letter int) int { return 0 })
-}
-
 // show writes a value for a message: the beginning, if it is large.
 func show(x any) string {
 	text := fmt.Sprint(x)
@@ -32,7 +22,7 @@ func show(x any) string {
 
 // TestValidate: P7.1, automata that are valid, of 1 to MaxDFA states over each number of letters.
 func TestValidate(t *testing.T) {
-	list := slices.Concat(machine.FewDFA(), machine.ScatteredDFA(200), []api.DFA{odd()})
+	list := slices.Concat(machine.FewDFA(), machine.ScatteredDFA(200), []api.DFA{machine.Odd()})
 	for letters := 1; letters <= api.MaxLetters; letters++ {
 		for _, states := range []int{1, 2, 63, 64, 65, 511, 512} {
 			last := machine.DFA(letters, states-1, make([]bool, states), func(state, letter int) int { return states - 1 })
@@ -146,7 +136,7 @@ func TestRunByHand(t *testing.T) {
 		{0, "aba", 0}, {0, "ab", 1}, {0, "", 0}, {1, "", 1}, {1, "bbb", 1}, {1, "bab", 0},
 		{-1, "", -1}, {2, "", -1}, {2, "a", -1}, {math.MinInt, "a", -1}, {math.MaxInt, "a", -1}, {1 << 32, "", -1}, {0, "c", -1}, {0, "abc", -1},
 	} {
-		if got := dfa.Run(odd(), c.state, c.w); got != c.want {
+		if got := dfa.Run(machine.Odd(), c.state, c.w); got != c.want {
 			t.Errorf("%d, %q: %d, want %d", c.state, c.w, got, c.want)
 		}
 	}
@@ -156,7 +146,7 @@ func TestRunByHand(t *testing.T) {
 func TestStrings(t *testing.T) {
 	long := strings.Repeat("a", api.MaxWord)
 	for letters := 1; letters <= api.MaxLetters; letters++ {
-		d := whole(letters, true)
+		d := machine.Whole(letters, true)
 		for w, want := range map[string]bool{
 			"": true, "a": true, "b": letters > 1, "bab": letters > 1, "c": letters > 2, "f": letters > 5, "af": letters > 5, "fa": letters > 5, "g": false, "ag": false,
 			"A": false, "`": false, " ": false, "a a": false, "é": false, "a\x00": false, "\xff": false, "1": false, long: true, long + "a": false, long[1:] + "g": false,
@@ -189,14 +179,14 @@ func TestComplement(t *testing.T) {
 			}
 		}
 	}
-	if got := dfa.Complement(odd()); !machine.SameDFA(got, api.DFA{Letters: 2, Final: []bool{true, false}, Next: [][]int{{1, 0}, {0, 1}}}) {
+	if got := dfa.Complement(machine.Odd()); !machine.SameDFA(got, api.DFA{Letters: 2, Final: []bool{true, false}, Next: [][]int{{1, 0}, {0, 1}}}) {
 		t.Error(got)
 	}
 }
 
 // TestToNFA: P7.7, the fields, and automata of MaxNFA states and of more.
 func TestToNFA(t *testing.T) {
-	list := slices.Concat(machine.FewDFA(), machine.ScatteredDFA(200), []api.DFA{odd()})
+	list := slices.Concat(machine.FewDFA(), machine.ScatteredDFA(200), []api.DFA{machine.Odd()})
 	for letters := 1; letters <= api.MaxLetters; letters++ {
 		for _, states := range []int{1, 63, 64, 65, 66, 512} {
 			d := machine.Cycle(letters, states, letters-1)
@@ -223,7 +213,7 @@ func TestToNFA(t *testing.T) {
 			t.Fatalf("%s: %s, %d", show(d), show(got), why)
 		}
 	}
-	got, why := dfa.ToNFA(odd())
+	got, why := dfa.ToNFA(machine.Odd())
 	if why != api.OK || !machine.SameNFA(got, api.NFA{Letters: 2, States: 2, Start: 1, Final: 2, Edges: machine.Edges([3]int{0, 0, 1}, [3]int{0, 1, 0}, [3]int{1, 0, 0}, [3]int{1, 1, 1})}) {
 		t.Error(got, why)
 	}
@@ -242,8 +232,8 @@ type results struct {
 func everything(d api.DFA, n api.NFA) results {
 	trim, number := dfa.Trim(d)
 	subset, sets, _ := dfa.Subset(n)
-	left, _ := dfa.Product(d, odd(), 9)
-	right, _ := dfa.Product(odd(), d, 5)
+	left, _ := dfa.Product(d, machine.Odd(), 9)
+	right, _ := dfa.Product(machine.Odd(), d, 5)
 	twice, _ := dfa.Product(d, d, 14)
 	same, _ := dfa.ToNFA(d)
 	dfa.Run(d, d.Start, "ab")

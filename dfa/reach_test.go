@@ -154,9 +154,9 @@ func TestTrimByHand(t *testing.T) {
 		number []int
 		words  []string
 	}{
-		{odd(), odd(), []int{0, 1}, []string{"", "a"}},
+		{machine.Odd(), machine.Odd(), []int{0, 1}, []string{"", "a"}},
 		{api.DFA{Letters: 2, Start: 1, Final: []bool{false, true}, Next: [][]int{{1, 0}, {0, 1}}}, api.DFA{Letters: 2, Final: []bool{true, false}, Next: [][]int{{1, 0}, {0, 1}}}, []int{1, 0}, []string{"", "a"}},
-		{api.DFA{Letters: 1, Start: 2, Final: []bool{true, true, false}, Next: [][]int{{1}, {2}, {2}}}, whole(1, false), []int{-1, -1, 0}, []string{""}},
+		{api.DFA{Letters: 1, Start: 2, Final: []bool{true, true, false}, Next: [][]int{{1}, {2}, {2}}}, machine.Whole(1, false), []int{-1, -1, 0}, []string{""}},
 		// State 3 is met before state 2, which is farther away.
 		{api.DFA{Letters: 2, Final: []bool{false, false, false, true}, Next: [][]int{{1, 3}, {2, 1}, {3, 2}, {3, 3}}}, api.DFA{Letters: 2, Final: []bool{false, false, true, false}, Next: [][]int{{1, 2}, {3, 1}, {2, 2}, {2, 3}}}, []int{0, 1, 3, 2}, []string{"", "a", "b", "aa"}},
 		// Two words of two letters lead to state 1; the greater one does through a state with a lower number.
@@ -260,10 +260,10 @@ func TestSubsetByHand(t *testing.T) {
 		sets []uint64
 		d    api.DFA
 	}{
-		{api.NFA{Letters: 1}, []uint64{0}, whole(1, false)},
-		{api.NFA{Letters: 6, States: 64, Final: math.MaxUint64}, []uint64{0}, whole(6, false)},
+		{api.NFA{Letters: 1}, []uint64{0}, machine.Whole(1, false)},
+		{api.NFA{Letters: 6, States: 64, Final: math.MaxUint64}, []uint64{0}, machine.Whole(6, false)},
 		{api.NFA{Letters: 2, States: 64, Start: math.MaxUint64, Final: 1 << 63}, []uint64{math.MaxUint64, 0}, api.DFA{Letters: 2, Final: []bool{true, false}, Next: [][]int{{1, 1}, {1, 1}}}},
-		{api.NFA{Letters: 1, States: 2, Start: 3, Final: 2, Edges: machine.Edges([3]int{0, 0, 0}, [3]int{0, 0, 1}, [3]int{1, 0, 0})}, []uint64{3}, whole(1, true)},
+		{api.NFA{Letters: 1, States: 2, Start: 3, Final: 2, Edges: machine.Edges([3]int{0, 0, 0}, [3]int{0, 0, 1}, [3]int{1, 0, 0})}, []uint64{3}, machine.Whole(1, true)},
 		// (a|b)*a
 		{atPlace(0), []uint64{1, 3}, api.DFA{Letters: 2, Final: []bool{false, true}, Next: [][]int{{1, 0}, {1, 0}}}},
 		// a leads to {1, 2}, b to {2}, ab and bb to {0}, aa and ba to nothing.
@@ -391,7 +391,7 @@ func TestProduct(t *testing.T) {
 
 // TestProductOps: P7.5, every operation: the words that are accepted.
 func TestProductOps(t *testing.T) {
-	a, b := odd(), atLeast(2)
+	a, b := machine.Odd(), atLeast(2)
 	for op := range 16 {
 		d, why := dfa.Product(a, b, op)
 		if why != api.OK {
@@ -436,7 +436,7 @@ func TestProductLimit(t *testing.T) {
 	}{
 		{machine.Cycle(2, 16, 0), machine.Cycle(2, 32, 1), 512}, {machine.Cycle(2, 19, 0), machine.Cycle(2, 27, 1), 0}, {machine.Cycle(2, 7, 1), machine.Cycle(2, 73, 0), 511}, {machine.Cycle(6, 27, 5), machine.Cycle(6, 19, 0), 0},
 		{machine.Cycle(1, 19, 0), machine.Cycle(1, 27, 0), 0}, {machine.Cycle(1, 7, 0), machine.Cycle(1, 73, 0), 511}, {machine.Cycle(1, 510, 0), machine.Cycle(1, 255, 0), 510}, {machine.Cycle(1, 511, 0), machine.Cycle(1, 2, 0), 0},
-		{long, long, 512}, {long, whole(2, true), 512}, {whole(2, false), long, 512}, {long, odd(), 512}, {long, atLeast(1), 0}, {atLeast(1), long, 0}, {machine.Cycle(2, 256, 0), atLeast(1), 512}, {machine.Cycle(2, 512, 1), long, 0},
+		{long, long, 512}, {long, machine.Whole(2, true), 512}, {machine.Whole(2, false), long, 512}, {long, machine.Odd(), 512}, {long, atLeast(1), 0}, {atLeast(1), long, 0}, {machine.Cycle(2, 256, 0), atLeast(1), 512}, {machine.Cycle(2, 512, 1), long, 0},
 		{machine.Cycle(1, 512, 0), machine.Cycle(1, 511, 0), 0},
 	} {
 		for _, op := range []int{0, 6, 15} {
@@ -458,7 +458,7 @@ func TestProductErrors(t *testing.T) {
 		for _, x := range []struct {
 			d  api.DFA
 			op int
-		}{{odd(), 8}, {odd(), 16}, {whole(1, true), -1}, {machine.Cycle(2, 512, 0), 8}} {
+		}{{machine.Odd(), 8}, {machine.Odd(), 16}, {machine.Whole(1, true), -1}, {machine.Cycle(2, 512, 0), 8}} {
 			if d, why := dfa.Product(c.D, x.d, x.op); why != c.Why || !machine.SameDFA(d, api.DFA{}) {
 				t.Errorf("case %d, first: %d, want %d", i, why, c.Why)
 			}
@@ -472,8 +472,8 @@ func TestProductErrors(t *testing.T) {
 		}
 	}
 	for _, op := range []int{math.MinInt, -1, 16, 17, 1 << 32, math.MaxInt} {
-		for _, b := range []api.DFA{odd(), atLeast(3), whole(1, true), machine.Cycle(2, 512, 0), machine.Cycle(2, 512, 1)} {
-			for _, a := range []api.DFA{odd(), machine.Cycle(2, 512, 0)} {
+		for _, b := range []api.DFA{machine.Odd(), atLeast(3), machine.Whole(1, true), machine.Cycle(2, 512, 0), machine.Cycle(2, 512, 1)} {
+			for _, a := range []api.DFA{machine.Odd(), machine.Cycle(2, 512, 0)} {
 				if d, why := dfa.Product(a, b, op); why != api.ErrArg || !machine.SameDFA(d, api.DFA{}) {
 					t.Errorf("%d: %d", op, why)
 				}

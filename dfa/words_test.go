@@ -58,7 +58,7 @@ func TestShortest(t *testing.T) {
 		w  string
 		ok bool
 	}{
-		{odd(), "a", true}, {machine.Cycle(3, 5, 1), "", true}, {whole(1, true), "", true}, {whole(6, false), "", false}, {atLeast(3), "bbb", true},
+		{machine.Odd(), "a", true}, {machine.Cycle(3, 5, 1), "", true}, {machine.Whole(1, true), "", true}, {machine.Whole(6, false), "", false}, {atLeast(3), "bbb", true},
 		{line(6, 510, true), strings.Repeat("a", 510), true}, {dfa.Complement(machine.Cycle(4, 512, 3)), "d", true}, {sparse(7, 10), "aaaaaaa", true},
 		{api.DFA{Letters: 2, Final: []bool{false, false, true, true}, Next: [][]int{{1, 3}, {2, 1}, {2, 2}, {3, 3}}}, "b", true},
 		{api.DFA{Letters: 2, Start: 3, Final: []bool{false, false, true, false}, Next: [][]int{{2, 0}, {1, 2}, {2, 2}, {1, 0}}}, "ab", true},
@@ -87,7 +87,7 @@ func TestCount(t *testing.T) {
 		}
 	}
 	for _, c := range []struct{ n, want int }{{0, 0}, {1, 1}, {2, 2}, {3, 4}, {10, 512}} {
-		if got := dfa.Count(odd(), c.n); got != c.want {
+		if got := dfa.Count(machine.Odd(), c.n); got != c.want {
 			t.Errorf("%d: %d, want %d", c.n, got, c.want)
 		}
 	}
@@ -133,7 +133,7 @@ func TestCountLarge(t *testing.T) {
 	}
 	for letters := 1; letters <= api.MaxLetters; letters++ {
 		for _, n := range []int{0, 1, 20, 23, 24, 60, 61, 62, 63, 64, 122, 1000, 9999, 10000} {
-			check(whole(letters, true), n)
+			check(machine.Whole(letters, true), n)
 			check(machine.Cycle(letters, 3, 0), n)
 		}
 	}
@@ -149,7 +149,7 @@ func TestCountLarge(t *testing.T) {
 
 // TestCountByHand: P7.6, lengths out of range, and powers that are known.
 func TestCountByHand(t *testing.T) {
-	all := whole(2, true)
+	all := machine.Whole(2, true)
 	for n, want := range map[int]int{
 		0: 1, 1: 2, 3: 8, 60: 1 << 60, 61: 1, 62: 2, 122: 1, 10000: 1 << (10000 % 61), 9999: 1 << (9999 % 61),
 		-1: 0, 10001: 0, 10004: 0, math.MinInt: 0, math.MaxInt: 0, 1 << 32: 0, -10000: 0,
@@ -157,7 +157,7 @@ func TestCountByHand(t *testing.T) {
 		if got := dfa.Count(all, n); got != want {
 			t.Errorf("%d: %d, want %d", n, got, want)
 		}
-		if got := dfa.Count(whole(2, false), n); got != 0 {
+		if got := dfa.Count(machine.Whole(2, false), n); got != 0 {
 			t.Errorf("no words, %d: %d", n, got)
 		}
 	}
@@ -274,9 +274,9 @@ func TestWordsByHand(t *testing.T) {
 		n    int
 		want []string
 	}{
-		{odd(), 3, []string{"a", "ab", "ba"}}, {odd(), 8, []string{"a", "ab", "ba", "aaa", "abb", "bab", "bba", "aaab"}}, {odd(), 0, nil}, {odd(), 1, []string{"a"}}, {odd(), -1, nil}, {odd(), 201, nil},
-		{odd(), math.MinInt, nil}, {odd(), math.MaxInt, nil}, {odd(), 1 << 32, nil},
-		{whole(1, false), 200, nil}, {whole(6, false), 5, nil}, {whole(6, true), 9, []string{"", "a", "b", "c", "d", "e", "f", "aa", "ab"}}, {whole(1, true), 200, powers(1, 200)},
+		{machine.Odd(), 3, []string{"a", "ab", "ba"}}, {machine.Odd(), 8, []string{"a", "ab", "ba", "aaa", "abb", "bab", "bba", "aaab"}}, {machine.Odd(), 0, nil}, {machine.Odd(), 1, []string{"a"}}, {machine.Odd(), -1, nil}, {machine.Odd(), 201, nil},
+		{machine.Odd(), math.MinInt, nil}, {machine.Odd(), math.MaxInt, nil}, {machine.Odd(), 1 << 32, nil},
+		{machine.Whole(1, false), 200, nil}, {machine.Whole(6, false), 5, nil}, {machine.Whole(6, true), 9, []string{"", "a", "b", "c", "d", "e", "f", "aa", "ab"}}, {machine.Whole(1, true), 200, powers(1, 200)},
 		{machine.Cycle(1, 512, 0), 200, powers(512, 5)}, {machine.Cycle(1, 512, 0), 4, powers(512, 4)}, {machine.Cycle(1, 512, 0), 5, powers(512, 5)}, {machine.Cycle(1, 256, 0), 200, powers(256, 9)},
 		{rest(2048, 500), 200, []string{a(48), a(548), a(1048), a(1548), a(2048)}}, {rest(2049, 500), 200, []string{a(49), a(549), a(1049), a(1549)}}, {rest(2047, 500), 200, []string{a(47), a(547), a(1047), a(1547), a(2047)}},
 		{sparse(2048, 510), 200, []string{a(8), a(7) + "b", a(518), a(517) + "b", a(1028), a(1027) + "b", a(1538), a(1537) + "b", a(2048), a(2047) + "b"}},
@@ -292,7 +292,7 @@ func TestWordsByHand(t *testing.T) {
 		}
 	}
 	for _, n := range []int{199, 200} {
-		if got, all := dfa.Words(whole(2, true), n), tree.Words(2, 8); !slices.Equal(got, all[:n]) {
+		if got, all := dfa.Words(machine.Whole(2, true), n), tree.Words(2, 8); !slices.Equal(got, all[:n]) {
 			t.Errorf("%d: %d words", n, len(got))
 		}
 	}
@@ -357,7 +357,7 @@ func TestInfiniteByHand(t *testing.T) {
 		d    api.DFA
 		want bool
 	}{
-		{odd(), true}, {whole(1, true), true}, {whole(1, false), false}, {atLeast(4), true}, {dfa.Complement(atLeast(4)), true}, {line(6, 0, true), false}, {line(1, 0, false), true},
+		{machine.Odd(), true}, {machine.Whole(1, true), true}, {machine.Whole(1, false), false}, {atLeast(4), true}, {dfa.Complement(atLeast(4)), true}, {line(6, 0, true), false}, {line(1, 0, false), true},
 		{line(6, 510, true), false}, {line(6, 510, false), true}, {dfa.Complement(line(6, 510, false)), false}, {dfa.Complement(line(6, 510, true)), true}, {sparse(3, 400), true},
 		{machine.Cycle(1, 512, 0), true}, {machine.Cycle(6, 512, 5), true}, {tail(0, 512), true}, {tail(1, 511), true}, {tail(256, 256), true}, {tail(511, 1), true}, {tail(500, 12), true},
 		// a cycle that no final state is behind, one that no word leads to, and both

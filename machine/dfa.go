@@ -52,6 +52,23 @@ func Cycle(letters, states, letter int) api.DFA {
 	})
 }
 
+// Odd accepts the words over two letters with an odd number of a.
+func Odd() api.DFA {
+	return api.DFA{Letters: 2, Final: []bool{false, true}, Next: [][]int{{1, 0}, {0, 1}}}
+}
+
+// Whole accepts all words, or none, with one state.
+func Whole(letters int, accepted bool) api.DFA {
+	return DFA(letters, 0, []bool{accepted}, func(state, letter int) int { return 0 })
+}
+
+// Far makes the automaton in which each letter leads to the next state, but nothing leads away from the last one, which is final alone.
+func Far(letters, states int) api.DFA {
+	final := make([]bool, states)
+	final[states-1] = true
+	return DFA(letters, 0, final, func(state, letter int) int { return min(state+1, states-1) })
+}
+
 // AllDFA lists all automata with so many letters and states.
 func AllDFA(letters, states int) []api.DFA {
 	tables := 1
@@ -120,6 +137,14 @@ func Shuffled(s *tree.Source, d api.DFA) api.DFA {
 		}
 	}
 	return c
+}
+
+// Doubled gives each state of an automaton a twin; each transition leads to some twin of the state that it led to.
+func Doubled(s *tree.Source, d api.DFA) api.DFA {
+	states := len(d.Final)
+	return DFA(d.Letters, d.Start+states*s.Below(2), slices.Concat(d.Final, d.Final), func(state, letter int) int {
+		return d.Next[state%states][letter] + states*s.Below(2)
+	})
 }
 
 // ScatteredDFA lists automata of all sizes: random ones, some of them with few successors or with a single one that leads to most states, and those that accept finitely many words.
